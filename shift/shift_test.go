@@ -5,6 +5,7 @@ import (
 	"sync"
 	"testing"
 
+	"erratum/plain"
 	"erratum/shift"
 )
 
@@ -35,41 +36,13 @@ func remainders() [16]byte {
 	return l
 }
 
-// double is a times 2, without a call of the package.
-func double(a byte) byte {
-	if a < 0x80 {
-		return a << 1
-	}
-	return a<<1 ^ 0x1D
-}
-
-// product is a times b, by doubling alone.
-func product(a, b byte) byte {
-	var p byte
-	for ; b != 0; b >>= 1 {
-		if b&1 == 1 {
-			p ^= a
-		}
-		a = double(a)
-	}
-	return p
-}
-
 // repeated is a multiplied n times with itself, one factor behind the other.
 func repeated(a byte, n int) byte {
 	p := byte(1)
 	for range n {
-		p = product(p, a)
+		p = plain.Mul(p, a)
 	}
 	return p
-}
-
-func allPairs(do func(a, b byte)) {
-	for a := range 256 {
-		for b := range 256 {
-			do(byte(a), byte(b))
-		}
-	}
 }
 
 func TestExample(t *testing.T) {
@@ -96,7 +69,7 @@ func TestWideKnown(t *testing.T) {
 }
 
 func TestWideAll(t *testing.T) {
-	allPairs(func(a, b byte) {
+	plain.AllPairs(func(a, b byte) {
 		if got := shift.Wide(a, b); got != wide(a, b) {
 			t.Fatalf("Wide(%02X, %02X) = %04X, not %04X", a, b, got, wide(a, b))
 		}
@@ -149,10 +122,10 @@ func TestMulEdges(t *testing.T) {
 }
 
 func TestMulAll(t *testing.T) {
-	allPairs(func(a, b byte) {
+	plain.AllPairs(func(a, b byte) {
 		got := shift.Mul(a, b)
-		if got != product(a, b) {
-			t.Fatalf("Mul(%02X, %02X) = %02X, not %02X", a, b, got, product(a, b))
+		if got != plain.Mul(a, b) {
+			t.Fatalf("Mul(%02X, %02X) = %02X, not %02X", a, b, got, plain.Mul(a, b))
 		}
 		if got != shift.Reduce(shift.Wide(a, b)) {
 			t.Fatalf("Mul(%02X, %02X) is not Reduce of Wide", a, b)
@@ -162,7 +135,7 @@ func TestMulAll(t *testing.T) {
 
 // TestDivided: bytes but 0 are multiplied, and divided, without a remainder.
 func TestDivided(t *testing.T) {
-	allPairs(func(a, b byte) {
+	plain.AllPairs(func(a, b byte) {
 		if b == 0 {
 			return
 		}
@@ -185,7 +158,7 @@ func TestInv(t *testing.T) {
 	}
 	for a := 1; a < 256; a++ {
 		got, ok := shift.Inv(byte(a))
-		if !ok || product(byte(a), got) != 1 {
+		if !ok || plain.Mul(byte(a), got) != 1 {
 			t.Errorf("Inv(%02X) = %02X, %v: times it that is not 1", a, got, ok)
 		}
 	}
@@ -214,7 +187,7 @@ func TestPowOfAll(t *testing.T) {
 			if got := shift.Pow(byte(a), -n); got != down {
 				t.Fatalf("Pow(%02X, %d) = %02X, not %02X", a, -n, got, down)
 			}
-			up, down = product(up, byte(a)), product(down, inverse)
+			up, down = plain.Mul(up, byte(a)), plain.Mul(down, inverse)
 		}
 	}
 }
@@ -260,8 +233,8 @@ func TestAskedByMany(t *testing.T) {
 	var all sync.WaitGroup
 	for range 8 {
 		all.Go(func() {
-			allPairs(func(a, b byte) {
-				if shift.Mul(a, b) != product(a, b) || shift.Pow(a, 2) != product(a, a) {
+			plain.AllPairs(func(a, b byte) {
+				if shift.Mul(a, b) != plain.Mul(a, b) || shift.Pow(a, 2) != plain.Mul(a, a) {
 					t.Errorf("another answer for %02X, %02X", a, b)
 				}
 			})

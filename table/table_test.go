@@ -8,6 +8,7 @@ import (
 	"sync"
 	"testing"
 
+	"erratum/plain"
 	"erratum/shift"
 	"erratum/table"
 )
@@ -37,34 +38,6 @@ func far() []int {
 	return []int{0, 1, 2, 254, 255, 256, 509, 510, 511, 765, -1, -2, -254, -255, -256, -510, -511,
 		1 << 15, -1 << 15, 1<<31 - 1, 1 << 31, -1 << 31, -1<<31 - 1, 1 << 32, -1 << 32, 255 << 40, -255 << 40, 255<<40 + 1, 1<<62 + 3,
 		math.MaxInt, math.MaxInt - 1, math.MaxInt / 254, math.MaxInt/254 + 1, math.MinInt, math.MinInt + 1, math.MinInt / 254, math.MinInt/254 - 1}
-}
-
-// double is a times 2, without a call of the package or of shift.
-func double(a byte) byte {
-	if a < 0x80 {
-		return a << 1
-	}
-	return a<<1 ^ 0x1D
-}
-
-// product is a times b, by doubling alone.
-func product(a, b byte) byte {
-	var p byte
-	for ; b != 0; b >>= 1 {
-		if b&1 == 1 {
-			p ^= a
-		}
-		a = double(a)
-	}
-	return p
-}
-
-func allPairs(do func(a, b byte)) {
-	for a := range 256 {
-		for b := range 256 {
-			do(byte(a), byte(b))
-		}
-	}
 }
 
 func TestExample(t *testing.T) {
@@ -120,7 +93,7 @@ func TestMadeByMany(t *testing.T) {
 					t.Errorf("Made among many = %d", made)
 				}
 				a := byte(i*15 + 1)
-				if inverse, ok := b.Inv(a); !ok || product(a, inverse) != 1 || b.Mul(a, 0x53) != product(a, 0x53) {
+				if inverse, ok := b.Inv(a); !ok || plain.Mul(a, inverse) != 1 || b.Mul(a, 0x53) != plain.Mul(a, 0x53) {
 					t.Errorf("another answer for %02X among many", a)
 				}
 				if made := b.Made(); made != 1 {
@@ -162,10 +135,10 @@ func TestExp(t *testing.T) {
 		if got := b.Exp(n); got != p {
 			t.Fatalf("Exp(%d) = %02X, not %02X", n, got, p)
 		}
-		if down := b.Exp(-n); product(down, p) != 1 {
+		if down := b.Exp(-n); plain.Mul(down, p) != 1 {
 			t.Fatalf("Exp(%d) = %02X: times Exp(%d) that is not 1", -n, down, n)
 		}
-		p = double(p)
+		p = plain.Double(p)
 	}
 	if got := b.Exp(-1); got != 0x8E {
 		t.Errorf("Exp(-1) = %02X, not 8E", got)
@@ -191,7 +164,7 @@ func TestLog(t *testing.T) {
 		if got, ok := b.Log(p); got != n || !ok {
 			t.Errorf("Log(%02X) = %d, %v, not %d, true", p, got, ok, n)
 		}
-		p = double(p)
+		p = plain.Double(p)
 	}
 	if p != 1 {
 		t.Fatal("the 255 powers of 2 do not come again")
@@ -203,10 +176,10 @@ func TestMul(t *testing.T) {
 	if got := b.Mul(0x80, 0x02); got != 0x1D {
 		t.Errorf("Mul(80, 02) = %02X, not 1D", got)
 	}
-	allPairs(func(x, y byte) {
+	plain.AllPairs(func(x, y byte) {
 		got := b.Mul(x, y)
-		if got != product(x, y) || got != shift.Mul(x, y) {
-			t.Fatalf("Mul(%02X, %02X) = %02X, not %02X", x, y, got, product(x, y))
+		if got != plain.Mul(x, y) || got != shift.Mul(x, y) {
+			t.Fatalf("Mul(%02X, %02X) = %02X, not %02X", x, y, got, plain.Mul(x, y))
 		}
 	})
 }
@@ -219,7 +192,7 @@ func TestInv(t *testing.T) {
 		if got != want || ok != is {
 			t.Errorf("Inv(%02X) = %02X, %v, not %02X, %v", a, got, ok, want, is)
 		}
-		if ok != (a != 0) || ok && product(byte(a), got) != 1 || !ok && got != 0 {
+		if ok != (a != 0) || ok && plain.Mul(byte(a), got) != 1 || !ok && got != 0 {
 			t.Errorf("Inv(%02X) = %02X, %v: no inverse", a, got, ok)
 		}
 	}
@@ -233,7 +206,7 @@ func TestPow(t *testing.T) {
 			if got := b.Pow(byte(a), n); got != up {
 				t.Fatalf("Pow(%02X, %d) = %02X, not %02X", a, n, got, up)
 			}
-			up = product(up, byte(a))
+			up = plain.Mul(up, byte(a))
 			if got, want := b.Pow(byte(a), -n), shift.Pow(byte(a), -n); got != want {
 				t.Fatalf("Pow(%02X, %d) = %02X, not %02X", a, -n, got, want)
 			}
@@ -268,7 +241,7 @@ func TestPowOfNought(t *testing.T) {
 // TestSums: the logarithm of a product is the sum of the logarithms, brought down by 255.
 func TestSums(t *testing.T) {
 	b := table.New()
-	allPairs(func(x, y byte) {
+	plain.AllPairs(func(x, y byte) {
 		l, isX := b.Log(x)
 		m, isY := b.Log(y)
 		got, is := b.Log(b.Mul(x, y))
@@ -328,7 +301,7 @@ func TestNil(t *testing.T) {
 			}
 		}
 	}
-	allPairs(func(x, y byte) {
+	plain.AllPairs(func(x, y byte) {
 		if got := none.Mul(x, y); got != 0 {
 			t.Errorf("Mul(%02X, %02X) of nil = %02X, not 0", x, y, got)
 		}
