@@ -22,18 +22,6 @@ func fields() map[string]*field.Field {
 	}
 }
 
-// mixed are bytes of many kinds, noughts among them; another seed tells others.
-func mixed(seed, long int) []byte {
-	l := make([]byte, long)
-	for i := range l {
-		l[i] = byte((i+seed)*(i+seed)*37 + 101*i + seed)
-		if (i+seed)%11 == 0 {
-			l[i] = 0
-		}
-	}
-	return l
-}
-
 // lengths are those at the edges of sixty-four, and some far from them.
 func lengths() []int {
 	return []int{0, 1, 2, 3, 31, 62, 63, 64, 65, 66, 127, 128, 129, 191, 192, 193, 255, 256, 257, 1000}
@@ -180,7 +168,7 @@ func TestEach(t *testing.T) {
 	for name, f := range fields() {
 		for _, long := range lengths() {
 			for _, a := range []byte{0, 1, 2, 0x1D, 0x80, 0x8E, 0xFF} {
-				l := mixed(int(a)+long, long)
+				l := plain.Mixed(int(a)+long, long)
 				if got, want := f.Each(a, l), eachPlain(a, l); !bytes.Equal(got, want) {
 					t.Fatalf("%s: Each of %02X and %d bytes = %X, not %X", name, a, long, got, want)
 				}
@@ -209,7 +197,7 @@ func TestPairs(t *testing.T) {
 	for name, f := range fields() {
 		for _, first := range lengths() {
 			for _, second := range lengths() {
-				l, m := mixed(first+second, first), mixed(2*second+5, second)
+				l, m := plain.Mixed(first+second, first), plain.Mixed(2*second+5, second)
 				if got, want := f.Pairs(l, m), pairsPlain(l, m); !bytes.Equal(got, want) {
 					t.Fatalf("%s: Pairs of %d and %d bytes = %X, not %X", name, first, second, got, want)
 				}
@@ -238,7 +226,7 @@ func TestDot(t *testing.T) {
 	for name, f := range fields() {
 		for _, first := range lengths() {
 			for _, second := range lengths() {
-				l, m := mixed(first+3*second, first), mixed(second+9, second)
+				l, m := plain.Mixed(first+3*second, first), plain.Mixed(second+9, second)
 				var want byte
 				for _, p := range pairsPlain(l, m) {
 					want ^= p
@@ -286,7 +274,7 @@ func TestNone(t *testing.T) {
 func TestBackendChangesNothing(t *testing.T) {
 	x, y, z := field.Of(api.Table), field.Of(api.Shift), field.Of(api.Lanes)
 	for seed := range 300 {
-		l, m, a := mixed(seed, seed), mixed(seed+7, 2*seed%300), byte(seed)
+		l, m, a := plain.Mixed(seed, seed), plain.Mixed(seed+7, 2*seed%300), byte(seed)
 		if p := x.Each(a, l); !bytes.Equal(p, y.Each(a, l)) || !bytes.Equal(p, z.Each(a, l)) {
 			t.Fatalf("Each of %02X and %X hangs on the backend", a, l)
 		}
@@ -299,19 +287,13 @@ func TestBackendChangesNothing(t *testing.T) {
 	}
 }
 
-// framed is a list within a longer one, whose other bytes are FF: what lies behind the list's length is there to be touched.
-func framed(l []byte) (whole, inner []byte) {
-	whole = slices.Concat([]byte{0xFF, 0xFF}, l, slices.Repeat([]byte{0xFF}, 130))
-	return whole, whole[2 : 2+len(l)]
-}
-
 // TestHandedInStays: lists are as they were, and so is what lies behind their length; none of it is told.
 func TestHandedInStays(t *testing.T) {
 	for name, f := range fields() {
 		for _, long := range lengths() {
-			l, m := mixed(long, long), mixed(long+1, long)
-			wholeL, innerL := framed(l)
-			wholeM, innerM := framed(m)
+			l, m := plain.Mixed(long, long), plain.Mixed(long+1, long)
+			wholeL, innerL := plain.Framed(l)
+			wholeM, innerM := plain.Framed(m)
 			wasL, wasM := slices.Clone(wholeL), slices.Clone(wholeM)
 			if got := f.Each(3, innerL); !bytes.Equal(got, eachPlain(3, l)) {
 				t.Errorf("%s: Each reads behind a list of %d", name, long)
@@ -333,7 +315,7 @@ func TestHandedInStays(t *testing.T) {
 func TestToldIsNew(t *testing.T) {
 	for name, f := range fields() {
 		for _, long := range lengths() {
-			l, m := mixed(long, long), mixed(long+1, long)
+			l, m := plain.Mixed(long, long), plain.Mixed(long+1, long)
 			each, pairs := eachPlain(1, l), pairsPlain(l, m)
 			e, p := f.Each(1, l), f.Pairs(l, m)
 			for _, other := range [][]byte{f.Each(1, l), f.Pairs(l, m), l, m} {
@@ -373,7 +355,7 @@ func TestNilField(t *testing.T) {
 			}
 		}
 	}
-	for _, l := range [][]byte{nil, {}, {1}, mixed(1, 200)} {
+	for _, l := range [][]byte{nil, {}, {1}, plain.Mixed(1, 200)} {
 		if len(f.Each(1, l)) != 0 || len(f.Pairs(l, l)) != 0 || f.Dot(l, l) != 0 {
 			t.Error("Each, Pairs or Dot of nil tells something")
 		}
@@ -387,7 +369,7 @@ func TestSeveralAtATime(t *testing.T) {
 		wrong := make([]bool, 16)
 		for who := range wrong {
 			all.Go(func() {
-				l, m := mixed(who, 200), mixed(who+1, 180)
+				l, m := plain.Mixed(who, 200), plain.Mixed(who+1, 180)
 				q, ok := f.Div(1, 2)
 				wrong[who] = q != 0x8E || !ok || f.Mul(0x80, 2) != 0x1D || f.Pow(2, -1) != 0x8E ||
 					!bytes.Equal(f.Each(byte(who), l), eachPlain(byte(who), l)) ||

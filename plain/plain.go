@@ -1,5 +1,7 @@
-// Package plain multiplies bytes by doubling alone: no layer stands on it, the tests hold the layers' answers against it.
+// Package plain multiplies bytes by doubling alone, and tells lists to try calls with: no layer stands on it, the tests hold the layers' answers against it.
 package plain
+
+import "slices"
 
 // Double is a byte times 2, modulo 11D.
 func Double(a byte) byte {
@@ -28,4 +30,22 @@ func AllPairs(do func(a, b byte)) {
 			do(byte(a), byte(b))
 		}
 	}
+}
+
+// Mixed are bytes of many kinds, noughts among them; another seed tells others.
+func Mixed(seed, long int) []byte {
+	l := make([]byte, long)
+	for i := range l {
+		l[i] = byte((i+seed)*(i+seed)*37 + 101*i + seed)
+		if (i+seed)%11 == 0 {
+			l[i] = 0
+		}
+	}
+	return l
+}
+
+// Framed is a list within a longer one, whose other bytes are FF: what lies behind the list's length is there to be touched.
+func Framed(l []byte) (whole, inner []byte) {
+	whole = slices.Concat([]byte{0xFF, 0xFF}, l, slices.Repeat([]byte{0xFF}, 130))
+	return whole, whole[2 : 2+len(l)]
 }
