@@ -1,4 +1,4 @@
-// Package plain multiplies bytes by doubling alone, and tells lists to try calls with: no layer stands on it, the tests hold the layers' answers against it.
+// Package plain multiplies bytes, and polynomials, by doubling alone, and tells lists to try calls with: no layer stands on it, the tests hold the layers' answers against it.
 package plain
 
 import "slices"

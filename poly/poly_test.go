@@ -22,66 +22,6 @@ func fields() map[string]*field.Field {
 	}
 }
 
-// lists are polynomials of many kinds: none, noughts alone, with and without noughts behind them, short and long.
-func lists() [][]byte {
-	l := [][]byte{nil, {}, {0}, {0, 0, 0}, make([]byte, 70), {1}, {2}, {0xFF}, {1, 0}, {0, 1}, {1, 1}, {0, 5, 0}, {3, 0, 0, 7},
-		{0, 0, 0, 9}, {1, 2, 3, 4, 5, 0, 0, 0}}
-	for _, long := range []int{5, 33, 63, 64, 65, 128, 129, 255, 256, 300} {
-		l = append(l, plain.Mixed(long, long), behind(plain.Mixed(long+1, long), 1+long%9))
-	}
-	return l
-}
-
-// behind is a list with noughts laid behind it.
-func behind(l []byte, noughts int) []byte {
-	return slices.Concat(l, make([]byte, noughts))
-}
-
-// alone is the polynomial a times x^i, of a list that is not longer than it need be.
-func alone(a byte, i int) []byte {
-	return append(make([]byte, i), a)
-}
-
-// strip is a list without noughts at its end.
-func strip(p []byte) []byte {
-	return bytes.TrimRight(p, "\x00")
-}
-
-// filled is a list with as many noughts behind it as it lacks.
-func filled(p []byte, long int) []byte {
-	return append(slices.Clone(p), make([]byte, max(0, long-len(p)))...)
-}
-
-// addPlain is what Add is to tell.
-func addPlain(p, q []byte) []byte {
-	long := max(len(p), len(q))
-	sum := filled(p, long)
-	for i, b := range filled(q, long) {
-		sum[i] ^= b
-	}
-	return strip(sum)
-}
-
-// scalePlain is what Scale is to tell.
-func scalePlain(a byte, p []byte) []byte {
-	var l []byte
-	for _, b := range p {
-		l = append(l, plain.Mul(a, b))
-	}
-	return strip(l)
-}
-
-// mulPlain is what Mul is to tell: each coefficient by each.
-func mulPlain(p, q []byte) []byte {
-	product := make([]byte, len(p)+len(q))
-	for i, a := range p {
-		for j, b := range q {
-			product[i+j] ^= plain.Mul(a, b)
-		}
-	}
-	return strip(product)
-}
-
 // numbers are those round the edges of a list, and as far off as an int is.
 func numbers(long int) []int {
 	l := []int{math.MinInt, math.MinInt + 1, -1 << 32, -1 << 31, -1000, -2, -1, 0, 1, 2, 3, 1000, 1 << 31, 1 << 32, math.MaxInt - 1, math.MaxInt}
@@ -119,9 +59,9 @@ func TestNormKnown(t *testing.T) {
 }
 
 func TestNorm(t *testing.T) {
-	for _, p := range lists() {
+	for _, p := range plain.Polys() {
 		got := poly.Norm(p)
-		if !bytes.Equal(got, strip(p)) {
+		if !bytes.Equal(got, plain.Strip(p)) {
 			t.Errorf("Norm(%X) = %X", p, got)
 		}
 		if again := poly.Norm(got); !bytes.Equal(again, got) {
@@ -143,8 +83,8 @@ func TestDegKnown(t *testing.T) {
 		{[]byte{1, 0, 0}, 0},
 		{[]byte{0, 5, 0}, 1},
 		{[]byte{0, 0, 1}, 2},
-		{alone(1, 1000), 1000},
-		{behind(alone(0x80, 4000), 3), 4000},
+		{plain.Alone(1, 1000), 1000},
+		{plain.Behind(plain.Alone(0x80, 4000), 3), 4000},
 	} {
 		if got := poly.Deg(c.p); got != c.want {
 			t.Errorf("Deg(%X) = %d, not %d", c.p, got, c.want)
@@ -153,15 +93,15 @@ func TestDegKnown(t *testing.T) {
 }
 
 func TestDeg(t *testing.T) {
-	for _, p := range lists() {
-		if got := poly.Deg(p); got != len(strip(p))-1 {
+	for _, p := range plain.Polys() {
+		if got := poly.Deg(p); got != len(plain.Strip(p))-1 {
 			t.Errorf("Deg(%X) = %d", p, got)
 		}
 	}
 }
 
 func TestCoef(t *testing.T) {
-	for _, p := range lists() {
+	for _, p := range plain.Polys() {
 		for i, want := range p {
 			if got := poly.Coef(p, i); got != want {
 				t.Errorf("Coef(%X, %d) = %02X, not %02X", p, i, got, want)
@@ -200,12 +140,12 @@ func TestSameKnown(t *testing.T) {
 }
 
 func TestSame(t *testing.T) {
-	for _, p := range lists() {
-		if !poly.Same(p, p) || !poly.Same(p, behind(p, 7)) || !poly.Same(behind(p, 7), p) {
+	for _, p := range plain.Polys() {
+		if !poly.Same(p, p) || !poly.Same(p, plain.Behind(p, 7)) || !poly.Same(plain.Behind(p, 7), p) {
 			t.Errorf("%X is not the same with noughts behind it", p)
 		}
-		for _, q := range lists() {
-			if got, want := poly.Same(p, q), bytes.Equal(strip(p), strip(q)); got != want {
+		for _, q := range plain.Polys() {
+			if got, want := poly.Same(p, q), bytes.Equal(plain.Strip(p), plain.Strip(q)); got != want {
 				t.Errorf("Same(%X, %X) = %v", p, q, got)
 			}
 		}
@@ -240,12 +180,12 @@ func TestAddKnown(t *testing.T) {
 
 // TestAdd: all lists with one another, unlike in length, and each with itself.
 func TestAdd(t *testing.T) {
-	for _, p := range lists() {
+	for _, p := range plain.Polys() {
 		if got := poly.Add(p, p); len(got) != 0 {
 			t.Errorf("Add(%X, itself) = %X", p, got)
 		}
-		for _, q := range lists() {
-			if got, want := poly.Add(p, q), addPlain(p, q); !bytes.Equal(got, want) {
+		for _, q := range plain.Polys() {
+			if got, want := poly.Add(p, q), plain.Sum(p, q); !bytes.Equal(got, want) {
 				t.Errorf("Add(%X, %X) = %X, not %X", p, q, got, want)
 			}
 		}
@@ -254,15 +194,15 @@ func TestAdd(t *testing.T) {
 
 func TestScale(t *testing.T) {
 	for name, f := range fields() {
-		for _, p := range lists() {
+		for _, p := range plain.Polys() {
 			if got := poly.Scale(f, 0, p); len(got) != 0 {
 				t.Errorf("%s: Scale(0, %X) = %X", name, p, got)
 			}
-			if got := poly.Scale(f, 1, p); !bytes.Equal(got, strip(p)) {
+			if got := poly.Scale(f, 1, p); !bytes.Equal(got, plain.Strip(p)) {
 				t.Errorf("%s: Scale(1, %X) = %X", name, p, got)
 			}
 			for _, a := range []byte{2, 3, 0x1D, 0x80, 0x8E, 0xFF} {
-				if got, want := poly.Scale(f, a, p), scalePlain(a, p); !bytes.Equal(got, want) {
+				if got, want := poly.Scale(f, a, p), plain.Scaled(a, p); !bytes.Equal(got, want) {
 					t.Errorf("%s: Scale(%02X, %X) = %X, not %X", name, a, p, got, want)
 				}
 			}
@@ -296,7 +236,7 @@ func TestMulKnown(t *testing.T) {
 func TestMulWithoutX(t *testing.T) {
 	for name, f := range fields() {
 		plain.AllPairs(func(a, b byte) {
-			if got := poly.Mul(f, []byte{a}, []byte{b}); !bytes.Equal(got, strip([]byte{plain.Mul(a, b)})) {
+			if got := poly.Mul(f, []byte{a}, []byte{b}); !bytes.Equal(got, plain.Strip([]byte{plain.Mul(a, b)})) {
 				t.Fatalf("%s: Mul(%02X, %02X) = %X", name, a, b, got)
 			}
 		})
@@ -305,9 +245,9 @@ func TestMulWithoutX(t *testing.T) {
 
 // TestMul: all lists with one another, so in both orders, and each with itself.
 func TestMul(t *testing.T) {
-	for _, p := range lists() {
-		for _, q := range lists() {
-			want := mulPlain(p, q)
+	for _, p := range plain.Polys() {
+		for _, q := range plain.Polys() {
+			want := plain.Product(p, q)
 			for name, f := range fields() {
 				if got := poly.Mul(f, p, q); !bytes.Equal(got, want) {
 					t.Errorf("%s: Mul(%X, %X) = %X, not %X", name, p, q, got, want)
@@ -320,7 +260,7 @@ func TestMul(t *testing.T) {
 // TestMulLong: a product's degree is not bounded, as a shifted polynomial's is.
 func TestMulLong(t *testing.T) {
 	p, q := append(plain.Mixed(3, 2000), 1), append(plain.Mixed(8, 1500), 0xFF)
-	want := mulPlain(p, q)
+	want := plain.Product(p, q)
 	for name, f := range fields() {
 		if !bytes.Equal(poly.Mul(f, p, q), want) || !bytes.Equal(poly.Mul(f, q, p), want) || len(want) != 3501 {
 			t.Errorf("%s: a long product is another one", name)
@@ -331,10 +271,10 @@ func TestMulLong(t *testing.T) {
 // TestMulByPowers: x^i is handed on either side; two powers of x are one.
 func TestMulByPowers(t *testing.T) {
 	for name, f := range fields() {
-		for _, p := range lists() {
+		for _, p := range plain.Polys() {
 			for _, i := range []int{0, 1, 2, 63, 64, 65, 200} {
-				want := strip(slices.Concat(make([]byte, i), p))
-				if !bytes.Equal(poly.Mul(f, p, alone(1, i)), want) || !bytes.Equal(poly.Mul(f, alone(1, i), p), want) {
+				want := plain.Strip(slices.Concat(make([]byte, i), p))
+				if !bytes.Equal(poly.Mul(f, p, plain.Alone(1, i)), want) || !bytes.Equal(poly.Mul(f, plain.Alone(1, i), p), want) {
 					t.Errorf("%s: %X times x^%d is another one", name, p, i)
 				}
 			}
@@ -346,7 +286,7 @@ func TestMulByPowers(t *testing.T) {
 func TestRing(t *testing.T) {
 	for name, f := range fields() {
 		for seed := range 40 {
-			p, q, r := plain.Mixed(seed, seed*5%90), plain.Mixed(seed+7, seed*7%130), behind(plain.Mixed(seed+19, seed*3%70), seed%4)
+			p, q, r := plain.Mixed(seed, seed*5%90), plain.Mixed(seed+7, seed*7%130), plain.Behind(plain.Mixed(seed+19, seed*3%70), seed%4)
 			pq, qr := poly.Mul(f, p, q), poly.Mul(f, q, r)
 			if !poly.Same(poly.Add(p, q), poly.Add(q, p)) || !poly.Same(pq, poly.Mul(f, q, p)) {
 				t.Errorf("%s: the order of %X and %X counts", name, p, q)
@@ -399,14 +339,14 @@ func TestShiftKnown(t *testing.T) {
 
 // TestShift: up and down by numbers at the edges of each list, of 1000, and of an int.
 func TestShift(t *testing.T) {
-	for _, p := range lists() {
+	for _, p := range plain.Polys() {
 		for _, n := range append(numbers(len(p)), 999-len(p), 1000-len(p), 1001-len(p), 1002-len(p)) {
 			var want []byte
 			switch {
 			case n >= 0 && n <= 1000:
-				want = strip(slices.Concat(make([]byte, n), p))
+				want = plain.Strip(slices.Concat(make([]byte, n), p))
 			case n < 0 && n >= -len(p):
-				want = strip(p[-n:])
+				want = plain.Strip(p[-n:])
 			}
 			if len(want) > 1001 {
 				want = nil
@@ -421,11 +361,11 @@ func TestShift(t *testing.T) {
 // TestShiftAtTheTop: what is told has a degree of 1000 at most, whichever way it came there.
 func TestShiftAtTheTop(t *testing.T) {
 	for _, d := range []int{0, 1, 2, 499, 999, 1000, 1001, 1002, 2000, 5000} {
-		p := behind(alone(7, d), d%3)
-		if got := poly.Shift(p, 1000-d); !bytes.Equal(got, alone(7, 1000)) {
+		p := plain.Behind(plain.Alone(7, d), d%3)
+		if got := poly.Shift(p, 1000-d); !bytes.Equal(got, plain.Alone(7, 1000)) {
 			t.Errorf("x^%d by %d has not the degree 1000", d, 1000-d)
 		}
-		if got := poly.Shift(p, 999-d); !bytes.Equal(got, alone(7, 999)) {
+		if got := poly.Shift(p, 999-d); !bytes.Equal(got, plain.Alone(7, 999)) {
 			t.Errorf("x^%d by %d has not the degree 999", d, 999-d)
 		}
 		for _, more := range []int{1, 2, 500, 1 << 31, 1 << 32, math.MaxInt - 6000} {
@@ -444,9 +384,9 @@ func TestShiftAtTheTop(t *testing.T) {
 // TestShiftIsAProduct: up is Mul by a power of x, and down leaves what Cut tells.
 func TestShiftIsAProduct(t *testing.T) {
 	f := field.Of(api.Table)
-	for _, p := range lists() {
+	for _, p := range plain.Polys() {
 		for _, n := range []int{0, 1, 2, 64, 100, 299, 300, 400} {
-			if !poly.Same(poly.Shift(p, n), poly.Mul(f, p, alone(1, n))) {
+			if !poly.Same(poly.Shift(p, n), poly.Mul(f, p, plain.Alone(1, n))) {
 				t.Errorf("Shift(%X, %d) is no product", p, n)
 			}
 			if !poly.Same(poly.Add(poly.Shift(poly.Shift(p, -n), n), poly.Cut(p, n)), p) {
@@ -482,13 +422,13 @@ func TestCutKnown(t *testing.T) {
 
 // TestCut: long lists are cut, too, beyond the degree that Shift bounds.
 func TestCut(t *testing.T) {
-	for _, p := range append(lists(), append(plain.Mixed(1, 3000), 1)) {
+	for _, p := range append(plain.Polys(), append(plain.Mixed(1, 3000), 1)) {
 		for _, n := range append(numbers(len(p)), 1001, 1002, 2000) {
 			want := p
 			if n < len(p) {
 				want = p[:max(n, 0)]
 			}
-			if got := poly.Cut(p, n); !bytes.Equal(got, strip(want)) {
+			if got := poly.Cut(p, n); !bytes.Equal(got, plain.Strip(want)) {
 				t.Errorf("Cut(%X, %d) = %X", p, n, got)
 			}
 		}
@@ -520,29 +460,10 @@ func told(f *field.Field, p, q []byte) map[string][]byte {
 	}
 }
 
-// alike says whether the same is told.
-func alike(a, b map[string][]byte) (string, bool) {
-	for call, l := range a {
-		if !bytes.Equal(l, b[call]) {
-			return call, false
-		}
-	}
-	return "", true
-}
-
-// copied are lists that share no memory with those that were told.
-func copied(a map[string][]byte) map[string][]byte {
-	b := map[string][]byte{}
-	for call, l := range a {
-		b[call] = slices.Clone(l)
-	}
-	return b
-}
-
 func TestToldIsNormal(t *testing.T) {
 	for name, f := range fields() {
-		for _, p := range lists() {
-			for _, q := range lists() {
+		for _, p := range plain.Polys() {
+			for _, q := range plain.Polys() {
 				for call, l := range told(f, p, q) {
 					if len(l) > 0 && l[len(l)-1] == 0 {
 						t.Fatalf("%s: %s of %X and %X is not normal: %X", name, call, p, q, l)
@@ -556,12 +477,12 @@ func TestToldIsNormal(t *testing.T) {
 // TestHandedInStays: lists are as they were, and so is what lies behind their length; none of it is read or told.
 func TestHandedInStays(t *testing.T) {
 	for name, f := range fields() {
-		for _, p := range lists() {
+		for _, p := range plain.Polys() {
 			q := plain.Mixed(len(p)+2, 40)
 			wholeP, innerP := plain.Framed(p)
 			wholeQ, innerQ := plain.Framed(q)
 			wasP, wasQ := slices.Clone(wholeP), slices.Clone(wholeQ)
-			if call, same := alike(told(f, p, q), told(f, innerP, innerQ)); !same {
+			if call, same := plain.Alike(told(f, p, q), told(f, innerP, innerQ)); !same {
 				t.Errorf("%s: %s reads behind %X", name, call, p)
 			}
 			if poly.Deg(innerP) != poly.Deg(p) || poly.Coef(innerP, len(p)) != 0 || poly.Coef(innerP, -1) != 0 || !poly.Same(innerP, p) {
@@ -577,24 +498,24 @@ func TestHandedInStays(t *testing.T) {
 // TestToldIsNew: what is told stays, whatever becomes of what was handed in or of what was told beside it.
 func TestToldIsNew(t *testing.T) {
 	for name, f := range fields() {
-		for _, p := range lists() {
+		for _, p := range plain.Polys() {
 			q := plain.Mixed(len(p)+2, 40)
 			wholeP, innerP := plain.Framed(p)
 			wholeQ, innerQ := plain.Framed(q)
 			first := told(f, innerP, innerQ)
-			want := copied(first)
+			want := plain.Copied(first)
 			for _, l := range told(f, innerP, innerQ) {
 				clear(l[:cap(l)])
 			}
 			clear(wholeP)
 			clear(wholeQ)
-			if call, same := alike(want, first); !same {
+			if call, same := plain.Alike(want, first); !same {
 				t.Errorf("%s: %s of %X shares memory with what was handed in or told before", name, call, p)
 			}
 			for call, l := range first {
 				clear(l[:cap(l)])
 				want[call] = make([]byte, len(l))
-				if other, same := alike(want, first); !same {
+				if other, same := plain.Alike(want, first); !same {
 					t.Errorf("%s: %s and %s of %X share memory", name, call, other, p)
 				}
 			}
@@ -605,7 +526,7 @@ func TestToldIsNew(t *testing.T) {
 // TestToldIsFarFromBehind: what is told may be written to its capacity's end, and what was handed in stays.
 func TestToldIsFarFromBehind(t *testing.T) {
 	for name, f := range fields() {
-		for _, p := range lists() {
+		for _, p := range plain.Polys() {
 			wholeP, innerP := plain.Framed(p)
 			was := slices.Clone(wholeP)
 			for call, l := range told(f, innerP, innerP) {
@@ -619,13 +540,13 @@ func TestToldIsFarFromBehind(t *testing.T) {
 }
 
 func TestNilField(t *testing.T) {
-	for _, p := range lists() {
+	for _, p := range plain.Polys() {
 		for _, a := range []byte{0, 1, 2, 0xFF} {
 			if len(poly.Scale(nil, a, p)) != 0 {
 				t.Errorf("Scale by nil of %02X and %X tells something", a, p)
 			}
 		}
-		for _, q := range lists() {
+		for _, q := range plain.Polys() {
 			if len(poly.Mul(nil, p, q)) != 0 {
 				t.Errorf("Mul by nil of %X and %X tells something", p, q)
 			}
@@ -642,7 +563,7 @@ func TestSeveralAtATime(t *testing.T) {
 		wrong := make([]bool, 8)
 		for who := range wrong {
 			all.Go(func() {
-				_, same := alike(want, told(f, p, q))
+				_, same := plain.Alike(want, told(f, p, q))
 				wrong[who] = !same
 			})
 		}

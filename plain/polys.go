@@ -1,0 +1,81 @@
+package plain
+
+import (
+	"bytes"
+	"maps"
+	"slices"
+)
+
+// Polys are polynomials of many kinds: none, noughts alone, with and without noughts behind them, short and long.
+func Polys() [][]byte {
+	l := [][]byte{nil, {}, {0}, {0, 0, 0}, make([]byte, 70), {1}, {2}, {0xFF}, {1, 0}, {0, 1}, {1, 1}, {0, 5, 0}, {3, 0, 0, 7},
+		{0, 0, 0, 9}, {1, 2, 3, 4, 5, 0, 0, 0}}
+	for _, long := range []int{5, 33, 63, 64, 65, 128, 129, 255, 256, 300} {
+		l = append(l, Mixed(long, long), Behind(Mixed(long+1, long), 1+long%9))
+	}
+	return l
+}
+
+// Behind is a list with noughts laid behind it.
+func Behind(l []byte, noughts int) []byte {
+	return slices.Concat(l, make([]byte, noughts))
+}
+
+// Alone is the polynomial a times x^i, of a list that is not longer than it need be.
+func Alone(a byte, i int) []byte {
+	return append(make([]byte, i), a)
+}
+
+// Strip is a list without noughts at its end.
+func Strip(p []byte) []byte {
+	return bytes.TrimRight(p, "\x00")
+}
+
+// Sum is that of two polynomials.
+func Sum(p, q []byte) []byte {
+	long := max(len(p), len(q))
+	sum := Behind(p, long-len(p))
+	for i, b := range Behind(q, long-len(q)) {
+		sum[i] ^= b
+	}
+	return Strip(sum)
+}
+
+// Scaled is a polynomial times a byte.
+func Scaled(a byte, p []byte) []byte {
+	var l []byte
+	for _, b := range p {
+		l = append(l, Mul(a, b))
+	}
+	return Strip(l)
+}
+
+// Product is that of two polynomials: each coefficient by each.
+func Product(p, q []byte) []byte {
+	product := make([]byte, len(p)+len(q))
+	for i, a := range p {
+		for j, b := range q {
+			product[i+j] ^= Mul(a, b)
+		}
+	}
+	return Strip(product)
+}
+
+// Alike says whether the same lists are told under the same names; else which one is the first that is another one.
+func Alike(a, b map[string][]byte) (string, bool) {
+	for _, call := range slices.Sorted(maps.Keys(a)) {
+		if !bytes.Equal(a[call], b[call]) {
+			return call, false
+		}
+	}
+	return "", true
+}
+
+// Copied are lists that share no memory with those that were told.
+func Copied(a map[string][]byte) map[string][]byte {
+	b := map[string][]byte{}
+	for call, l := range a {
+		b[call] = slices.Clone(l)
+	}
+	return b
+}
