@@ -61,6 +61,26 @@ func Product(p, q []byte) []byte {
 	return Strip(product)
 }
 
+// FromZeros is the product of x and each of them.
+func FromZeros(zeros ...byte) []byte {
+	p := []byte{1}
+	for _, z := range zeros {
+		p = Product(p, []byte{z, 1})
+	}
+	return p
+}
+
+// Value is that of a polynomial at x: each coefficient by its power, from that of x^0 on.
+func Value(p []byte, x byte) byte {
+	var sum byte
+	power := byte(1)
+	for _, a := range p {
+		sum ^= Mul(a, power)
+		power = Mul(power, x)
+	}
+	return sum
+}
+
 // Alike says whether the same lists are told under the same names; else which one is the first that is another one.
 func Alike(a, b map[string][]byte) (string, bool) {
 	for _, call := range slices.Sorted(maps.Keys(a)) {

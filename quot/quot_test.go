@@ -66,15 +66,6 @@ func gcdPlain(p, q []byte) []byte {
 	return p
 }
 
-// fromZeros is the product of x and each of them.
-func fromZeros(zeros ...byte) []byte {
-	p := []byte{1}
-	for _, z := range zeros {
-		p = plain.Product(p, []byte{z, 1})
-	}
-	return p
-}
-
 func TestExample(t *testing.T) {
 	for name, f := range fields() {
 		times, left, ok := quot.Div(f, []byte{1, 0, 1}, []byte{1, 1})
@@ -390,7 +381,7 @@ func TestGcdOfZeros(t *testing.T) {
 			{nil, []byte{5, 6}, nil},
 			{[]byte{0x80, 0xFF, 0x1D}, []byte{0xFF, 0x1D, 0x80, 1}, []byte{0x1D, 0x80, 0xFF}},
 		} {
-			p, q, want := plain.Scaled(6, fromZeros(c.p...)), plain.Scaled(0xE1, fromZeros(c.q...)), fromZeros(c.want...)
+			p, q, want := plain.Scaled(6, plain.FromZeros(c.p...)), plain.Scaled(0xE1, plain.FromZeros(c.q...)), plain.FromZeros(c.want...)
 			if got := quot.Gcd(f, p, q); !bytes.Equal(got, want) {
 				t.Errorf("%s: Gcd of the zeros %X and %X = %X, not %X", name, c.p, c.q, got, want)
 			}
