@@ -1,0 +1,67 @@
+package plain
+
+import (
+	"math"
+	"math/bits"
+
+	"erratum/api"
+)
+
+// Sized is a matrix of many kinds of cells; another seed tells others.
+func Sized(seed, rows, cols int) api.Matrix {
+	m := api.Matrix{Rows: rows, Cols: cols}
+	for i := range rows {
+		m.Cells = append(m.Cells, Mixed(seed+7*i, cols)...)
+	}
+	return m
+}
+
+// Sizes are rows and columns of many kinds: none of either, one of either, as many as lanes hold, and the most.
+func Sizes() [][2]int {
+	return [][2]int{{0, 0}, {0, 1}, {1, 0}, {0, 5}, {5, 0}, {0, 300}, {300, 0}, {1, 1}, {1, 2}, {2, 1}, {2, 2}, {2, 3}, {3, 2}, {3, 3},
+		{5, 5}, {1, 5}, {5, 1}, {4, 64}, {64, 4}, {3, 65}, {65, 3}, {64, 65}, {65, 64}, {17, 129}, {1, 300}, {300, 1}, {300, 2}, {2, 300}}
+}
+
+// Matrices are right ones of all those sizes, and some known ones.
+func Matrices() []api.Matrix {
+	l := []api.Matrix{{Rows: 1, Cols: 1, Cells: []byte{0}}, {Rows: 1, Cols: 1, Cells: []byte{1}}, {Rows: 1, Cols: 2, Cells: []byte{1, 2}},
+		{Rows: 2, Cols: 2, Cells: []byte{1, 1, 0, 2}}, {Rows: 2, Cols: 2, Cells: []byte{0, 0, 0, 0}}, {Rows: 3, Cols: 3, Cells: []byte{1, 0, 0, 0, 1, 0, 0, 0, 1}}}
+	for seed, size := range Sizes() {
+		l = append(l, Sized(seed, size[0], size[1]))
+	}
+	return l
+}
+
+// Crooked are matrices that are not right: sides below 0 and above 300, more and fewer cells, and sides whose product comes round to the number of cells.
+func Crooked() []api.Matrix {
+	const half, seventh = 1 << (bits.UintSize / 2), (3<<bits.UintSize + 1) / 7
+	l := []api.Matrix{}
+	for _, c := range [][3]int{{-1, 0, 0}, {0, -1, 0}, {-1, 5, 0}, {5, -1, 0}, {-1, -1, 0}, {-1, -1, 1}, {-2, -3, 6}, {-300, -300, 90000},
+		{301, 0, 0}, {0, 301, 0}, {301, 1, 301}, {1, 301, 301}, {301, 301, 90601}, {300, 301, 90300}, {301, 300, 90300}, {600, 2, 1200}, {2, 600, 1200},
+		{0, 0, 1}, {0, 5, 5}, {5, 0, 5}, {0, 1, 1}, {1, 0, 1}, {1, 1, 0}, {1, 1, 2}, {2, 2, 0}, {2, 2, 2}, {2, 2, 3}, {2, 2, 5}, {3, 2, 5}, {2, 3, 7},
+		{300, 300, 0}, {300, 300, 89999}, {300, 300, 90001}, {300, 1, 299}, {1, 300, 301},
+		{half, half, 0}, {2 * half, half / 2, 0}, {half / 2, 2 * half, 0}, {-half, half, 0}, {7, seventh, 1}, {seventh, 7, 1},
+		{math.MinInt, 2, 0}, {2, math.MinInt, 0}, {math.MinInt, math.MinInt, 0}, {math.MaxInt, math.MaxInt, 1}, {math.MaxInt, 0, 0}, {0, math.MaxInt, 0},
+		{math.MinInt, 0, 0}, {0, math.MinInt, 0}} {
+		l = append(l, api.Matrix{Rows: c[0], Cols: c[1], Cells: Mixed(c[2]+1, c[2])})
+	}
+	return l
+}
+
+// Cell is that at a row and a column of a right matrix.
+func Cell(m api.Matrix, row, col int) byte { return m.Cells[row*m.Cols+col] }
+
+// MatrixProduct is that of two right matrices whose sizes fit: each cell by each.
+func MatrixProduct(a, b api.Matrix) api.Matrix {
+	product := api.Matrix{Rows: a.Rows, Cols: b.Cols}
+	for i := range a.Rows {
+		for j := range b.Cols {
+			var sum byte
+			for k := range a.Cols {
+				sum ^= Mul(Cell(a, i, k), Cell(b, k, j))
+			}
+			product.Cells = append(product.Cells, sum)
+		}
+	}
+	return product
+}
