@@ -32,14 +32,6 @@ func of(t *testing.T, rows ...[]byte) api.Matrix {
 	return m
 }
 
-// nothing says whether a matrix is its zero value.
-func nothing(m api.Matrix) bool { return m.Rows == 0 && m.Cols == 0 && len(m.Cells) == 0 }
-
-// alike says whether two matrices are the same; it asks the package nothing.
-func alike(a, b api.Matrix) bool {
-	return a.Rows == b.Rows && a.Cols == b.Cols && bytes.Equal(a.Cells, b.Cells)
-}
-
 // cut are the rows of a right matrix, in its own memory.
 func cut(m api.Matrix) [][]byte {
 	rows := make([][]byte, m.Rows)
@@ -47,17 +39,6 @@ func cut(m api.Matrix) [][]byte {
 		rows[i] = m.Cells[i*m.Cols : (i+1)*m.Cols]
 	}
 	return rows
-}
-
-// turnedPlain is a right matrix with rows for columns.
-func turnedPlain(m api.Matrix) api.Matrix {
-	turned := api.Matrix{Rows: m.Cols, Cols: m.Rows}
-	for j := range m.Cols {
-		for i := range m.Rows {
-			turned.Cells = append(turned.Cells, plain.Cell(m, i, j))
-		}
-	}
-	return turned
 }
 
 // sumPlain is that of two lists of cells of one length.
@@ -69,23 +50,8 @@ func sumPlain(a, b []byte) []byte {
 	return sum
 }
 
-// column is a matrix of one column.
-func column(v []byte) api.Matrix { return api.Matrix{Rows: len(v), Cols: 1, Cells: v} }
-
-// copied shares no memory with m.
-func copied(m api.Matrix) api.Matrix {
-	m.Cells = slices.Clone(m.Cells)
-	return m
-}
-
-// framed is a matrix whose cells lie within a longer list.
-func framed(m api.Matrix) (whole []byte, inner api.Matrix) {
-	whole, cells := plain.Framed(m.Cells)
-	return whole, api.Matrix{Rows: m.Rows, Cols: m.Cols, Cells: cells}
-}
-
 func TestExample(t *testing.T) {
-	if got, want := matrix.Turn(of(t, []byte{1, 2})), of(t, []byte{1}, []byte{2}); !alike(got, want) || !matrix.Same(got, want) {
+	if got, want := matrix.Turn(of(t, []byte{1, 2})), of(t, []byte{1}, []byte{2}); !plain.SameMatrix(got, want) || !matrix.Same(got, want) {
 		t.Errorf("Turn of Of of the rows 1, 2 = %v, not the rows 1, and 2", got)
 	}
 }
@@ -146,7 +112,7 @@ func TestOfKnown(t *testing.T) {
 		{[][]byte{{1}, {2}}, api.Matrix{Rows: 2, Cols: 1, Cells: []byte{1, 2}}},
 		{[][]byte{{0, 1, 2}, {3, 4, 0}}, api.Matrix{Rows: 2, Cols: 3, Cells: []byte{0, 1, 2, 3, 4, 0}}},
 	} {
-		if got, ok := matrix.Of(c.rows); !ok || !alike(got, c.want) {
+		if got, ok := matrix.Of(c.rows); !ok || !plain.SameMatrix(got, c.want) {
 			t.Errorf("Of(%X) = %v, %v, not %v", c.rows, got, ok, c.want)
 		}
 	}
@@ -158,7 +124,7 @@ func TestOf(t *testing.T) {
 		if m.Rows == 0 {
 			continue // No rows say nothing of how long they are.
 		}
-		if got, ok := matrix.Of(cut(m)); !ok || !alike(got, m) {
+		if got, ok := matrix.Of(cut(m)); !ok || !plain.SameMatrix(got, m) {
 			t.Errorf("Of the rows of %d by %d = %v, %v", m.Rows, m.Cols, got, ok)
 		}
 	}
@@ -178,7 +144,7 @@ func TestOfUnlike(t *testing.T) {
 				}
 				list := cut(plain.Sized(3, rows, cols))
 				list[at] = plain.Mixed(5, long)
-				if got, ok := matrix.Of(list); ok || !nothing(got) {
+				if got, ok := matrix.Of(list); ok || !plain.NoMatrix(got) {
 					t.Errorf("Of %d rows of %d, but one of %d at %d = %v, %v", rows, cols, long, at, got, ok)
 				}
 			}
@@ -189,7 +155,7 @@ func TestOfUnlike(t *testing.T) {
 // TestOfUnlikeSum: rows of unlike lengths that have as many cells as rows of one length would.
 func TestOfUnlikeSum(t *testing.T) {
 	for _, rows := range [][][]byte{{{1, 2}, {3}, {4, 5, 6}}, {{1, 2}, {3, 4, 5}, {6}}, {{1}, nil, {2, 3}}, {nil, {1}}, {{1}, nil}, {{1, 2}, {3, 4}, nil, {5, 6, 7, 8}}} {
-		if got, ok := matrix.Of(rows); ok || !nothing(got) {
+		if got, ok := matrix.Of(rows); ok || !plain.NoMatrix(got) {
 			t.Errorf("Of(%X) = %v, %v", rows, got, ok)
 		}
 	}
@@ -198,7 +164,7 @@ func TestOfUnlikeSum(t *testing.T) {
 // TestOfTooMany: more than 300 rows, or longer ones.
 func TestOfTooMany(t *testing.T) {
 	for _, size := range [][2]int{{301, 0}, {301, 1}, {301, 2}, {301, 300}, {1, 301}, {2, 301}, {300, 301}, {301, 301}, {1, 90000}, {90000, 1}, {90000, 0}, {1 << 16, 0}, {1, 1 << 16}} {
-		if got, ok := matrix.Of(slices.Repeat([][]byte{make([]byte, size[1])}, size[0])); ok || !nothing(got) {
+		if got, ok := matrix.Of(slices.Repeat([][]byte{make([]byte, size[1])}, size[0])); ok || !plain.NoMatrix(got) {
 			t.Errorf("Of %d rows of %d = %v, %v", size[0], size[1], got, ok)
 		}
 	}
@@ -219,7 +185,7 @@ func TestOne(t *testing.T) {
 		}
 	}
 	for _, n := range []int{-1, -2, -300, 301, 302, 1000, 1 << 16, 1 << 31, 1 << 32, -1 << 32, 1<<32 + 1, math.MaxInt, math.MinInt, math.MinInt + 1} {
-		if got := matrix.One(n); !nothing(got) {
+		if got := matrix.One(n); !plain.NoMatrix(got) {
 			t.Errorf("One(%d) is %d by %d, %d cells", n, got.Rows, got.Cols, len(got.Cells))
 		}
 	}
@@ -266,7 +232,7 @@ func TestTurnKnown(t *testing.T) {
 		{of(t, []byte{1, 2, 3}, []byte{4, 5, 6}), of(t, []byte{1, 4}, []byte{2, 5}, []byte{3, 6})},
 		{matrix.One(300), matrix.One(300)},
 	} {
-		if got := matrix.Turn(c.m); !alike(got, c.want) {
+		if got := matrix.Turn(c.m); !plain.SameMatrix(got, c.want) {
 			t.Errorf("Turn(%v) = %v, not %v", c.m, got, c.want)
 		}
 	}
@@ -276,15 +242,15 @@ func TestTurnKnown(t *testing.T) {
 func TestTurn(t *testing.T) {
 	for _, m := range append(plain.Matrices(), plain.Sized(1, 300, 300)) {
 		got := matrix.Turn(m)
-		if !alike(got, turnedPlain(m)) {
+		if !plain.SameMatrix(got, plain.Turned(m)) {
 			t.Errorf("Turn of %d by %d = %v", m.Rows, m.Cols, got)
 		}
-		if !alike(matrix.Turn(got), m) {
+		if !plain.SameMatrix(matrix.Turn(got), m) {
 			t.Errorf("%d by %d, turned twice, is another one", m.Rows, m.Cols)
 		}
 	}
 	for _, m := range plain.Crooked() {
-		if got := matrix.Turn(m); !nothing(got) {
+		if got := matrix.Turn(m); !plain.NoMatrix(got) {
 			t.Errorf("Turn of %d by %d, %d cells = %v", m.Rows, m.Cols, len(m.Cells), got)
 		}
 	}
@@ -292,7 +258,7 @@ func TestTurn(t *testing.T) {
 
 func TestAddKnown(t *testing.T) {
 	a, b := of(t, []byte{1, 2}, []byte{0xFF, 0}), of(t, []byte{1, 4}, []byte{0x0F, 0})
-	if got, ok := matrix.Add(a, b); !ok || !alike(got, of(t, []byte{0, 6}, []byte{0xF0, 0})) {
+	if got, ok := matrix.Add(a, b); !ok || !plain.SameMatrix(got, of(t, []byte{0, 6}, []byte{0xF0, 0})) {
 		t.Errorf("Add(%v, %v) = %v, %v", a, b, got, ok)
 	}
 }
@@ -303,13 +269,13 @@ func TestAdd(t *testing.T) {
 		for _, b := range plain.Matrices() {
 			got, ok := matrix.Add(a, b)
 			if a.Rows != b.Rows || a.Cols != b.Cols {
-				if ok || !nothing(got) {
+				if ok || !plain.NoMatrix(got) {
 					t.Errorf("Add of %d by %d and %d by %d = %v, %v", a.Rows, a.Cols, b.Rows, b.Cols, got, ok)
 				}
 				continue
 			}
 			want := api.Matrix{Rows: a.Rows, Cols: a.Cols, Cells: sumPlain(a.Cells, b.Cells)}
-			if !ok || !alike(got, want) {
+			if !ok || !plain.SameMatrix(got, want) {
 				t.Errorf("Add(%v, %v) = %v, %v, not %v", a, b, got, ok, want)
 			}
 		}
@@ -323,7 +289,7 @@ func TestAddSizes(t *testing.T) {
 		noughts := api.Matrix{Rows: size[0], Cols: size[1], Cells: make([]byte, size[0]*size[1])}
 		sum := api.Matrix{Rows: size[0], Cols: size[1], Cells: sumPlain(a.Cells, b.Cells)}
 		for _, c := range []struct{ a, b, want api.Matrix }{{a, b, sum}, {b, a, sum}, {a, sum, b}, {a, noughts, a}, {noughts, a, a}, {a, a, noughts}} {
-			if got, ok := matrix.Add(c.a, c.b); !ok || !alike(got, c.want) {
+			if got, ok := matrix.Add(c.a, c.b); !ok || !plain.SameMatrix(got, c.want) {
 				t.Errorf("a sum of %d by %d is another one, %v", size[0], size[1], ok)
 			}
 		}
@@ -341,11 +307,11 @@ func TestCrooked(t *testing.T) {
 		}
 		for _, other := range others {
 			for _, pair := range [][2]api.Matrix{{m, other}, {other, m}} {
-				if got, ok := matrix.Add(pair[0], pair[1]); ok || !nothing(got) {
+				if got, ok := matrix.Add(pair[0], pair[1]); ok || !plain.NoMatrix(got) {
 					t.Errorf("Add of %d by %d and %d by %d = %v, %v", pair[0].Rows, pair[0].Cols, pair[1].Rows, pair[1].Cols, got, ok)
 				}
 				for name, f := range fields() {
-					if got, ok := matrix.Mul(f, pair[0], pair[1]); ok || !nothing(got) {
+					if got, ok := matrix.Mul(f, pair[0], pair[1]); ok || !plain.NoMatrix(got) {
 						t.Errorf("%s: Mul of %d by %d and %d by %d = %v, %v", name, pair[0].Rows, pair[0].Cols, pair[1].Rows, pair[1].Cols, got, ok)
 					}
 				}
@@ -386,7 +352,7 @@ func TestMulKnown(t *testing.T) {
 			{of(t, []byte{1, 0}, []byte{2, 1}), of(t, []byte{1, 2}, []byte{0, 1}), of(t, []byte{1, 2}, []byte{2, 5})},
 			{of(t, []byte{0, 1}, []byte{1, 0}), of(t, []byte{7, 8, 9}, []byte{4, 5, 6}), of(t, []byte{4, 5, 6}, []byte{7, 8, 9})},
 		} {
-			if got, ok := matrix.Mul(f, c.a, c.b); !ok || !alike(got, c.want) {
+			if got, ok := matrix.Mul(f, c.a, c.b); !ok || !plain.SameMatrix(got, c.want) {
 				t.Errorf("%s: Mul(%v, %v) = %v, %v, not %v", name, c.a, c.b, got, ok, c.want)
 			}
 		}
@@ -403,7 +369,7 @@ func TestMul(t *testing.T) {
 				want = plain.MatrixProduct(a, b)
 			}
 			for name, f := range fields() {
-				if got, ok := matrix.Mul(f, a, b); ok != fits || !alike(got, want) {
+				if got, ok := matrix.Mul(f, a, b); ok != fits || !plain.SameMatrix(got, want) {
 					t.Errorf("%s: Mul of %d by %d and %d by %d is another one, %v", name, a.Rows, a.Cols, b.Rows, b.Cols, ok)
 				}
 			}
@@ -415,7 +381,7 @@ func TestMul(t *testing.T) {
 func TestMulNextTo(t *testing.T) {
 	for name, f := range fields() {
 		for _, c := range [][4]int{{2, 3, 2, 3}, {2, 3, 4, 2}, {2, 3, 2, 2}, {3, 2, 3, 2}, {0, 1, 0, 1}, {1, 0, 1, 0}, {5, 0, 1, 5}, {5, 1, 0, 5}, {299, 300, 299, 300}, {1, 300, 299, 1}, {4, 6, 4, 4}} {
-			if got, ok := matrix.Mul(f, plain.Sized(1, c[0], c[1]), plain.Sized(2, c[2], c[3])); ok || !nothing(got) {
+			if got, ok := matrix.Mul(f, plain.Sized(1, c[0], c[1]), plain.Sized(2, c[2], c[3])); ok || !plain.NoMatrix(got) {
 				t.Errorf("%s: Mul of sizes %v = %v, %v", name, c, got, ok)
 			}
 		}
@@ -425,10 +391,10 @@ func TestMulNextTo(t *testing.T) {
 // TestMulGreatest: 300 by 300 with what is turned of it.
 func TestMulGreatest(t *testing.T) {
 	a := plain.Sized(1, 300, 300)
-	b := turnedPlain(a)
+	b := plain.Turned(a)
 	want := plain.MatrixProduct(a, b)
 	for name, f := range fields() {
-		if got, ok := matrix.Mul(f, a, b); !ok || !alike(got, want) {
+		if got, ok := matrix.Mul(f, a, b); !ok || !plain.SameMatrix(got, want) {
 			t.Errorf("%s: 300 by 300 and what is turned of it have another product, %v", name, ok)
 		}
 	}
@@ -438,10 +404,10 @@ func TestMulGreatest(t *testing.T) {
 func TestMulOne(t *testing.T) {
 	for name, f := range fields() {
 		for _, m := range plain.Matrices() {
-			if got, ok := matrix.Mul(f, matrix.One(m.Rows), m); !ok || !alike(got, m) {
+			if got, ok := matrix.Mul(f, matrix.One(m.Rows), m); !ok || !plain.SameMatrix(got, m) {
 				t.Errorf("%s: One times %d by %d is another one, %v", name, m.Rows, m.Cols, ok)
 			}
-			if got, ok := matrix.Mul(f, m, matrix.One(m.Cols)); !ok || !alike(got, m) {
+			if got, ok := matrix.Mul(f, m, matrix.One(m.Cols)); !ok || !plain.SameMatrix(got, m) {
 				t.Errorf("%s: %d by %d times One is another one, %v", name, m.Rows, m.Cols, ok)
 			}
 		}
@@ -471,7 +437,7 @@ func TestMulOfThree(t *testing.T) {
 			a, b, c := plain.Sized(1, n[0], n[1]), plain.Sized(2, n[1], n[2]), plain.Sized(3, n[2], n[3])
 			left := mul(t, f, mul(t, f, a, b), c)
 			right := mul(t, f, a, mul(t, f, b, c))
-			if !alike(left, right) || left.Rows != n[0] || left.Cols != n[3] {
+			if !plain.SameMatrix(left, right) || left.Rows != n[0] || left.Cols != n[3] {
 				t.Errorf("%s: the product of three, sides %v, hangs on which are first", name, n)
 			}
 		}
@@ -485,11 +451,11 @@ func TestMulOfSums(t *testing.T) {
 			a, b, c, d := plain.Sized(1, n[0], n[1]), plain.Sized(2, n[1], n[2]), plain.Sized(3, n[1], n[2]), plain.Sized(4, n[2], n[3])
 			sum, _ := matrix.Add(b, c)
 			before, ok := matrix.Add(mul(t, f, a, b), mul(t, f, a, c))
-			if !ok || !alike(mul(t, f, a, sum), before) {
+			if !ok || !plain.SameMatrix(mul(t, f, a, sum), before) {
 				t.Errorf("%s: a product with a sum, sides %v, is another one", name, n)
 			}
 			behind, ok := matrix.Add(mul(t, f, b, d), mul(t, f, c, d))
-			if !ok || !alike(mul(t, f, sum, d), behind) {
+			if !ok || !plain.SameMatrix(mul(t, f, sum, d), behind) {
 				t.Errorf("%s: a product of a sum, sides %v, is another one", name, n)
 			}
 		}
@@ -501,7 +467,7 @@ func TestMulTurned(t *testing.T) {
 	for name, f := range fields() {
 		for _, n := range fourSides() {
 			a, b := plain.Sized(1, n[0], n[1]), plain.Sized(2, n[1], n[2])
-			if got := mul(t, f, matrix.Turn(b), matrix.Turn(a)); !alike(got, matrix.Turn(mul(t, f, a, b))) {
+			if got := mul(t, f, matrix.Turn(b), matrix.Turn(a)); !plain.SameMatrix(got, matrix.Turn(mul(t, f, a, b))) {
 				t.Errorf("%s: a product, sides %v, turned is another one", name, n)
 			}
 		}
@@ -538,7 +504,7 @@ func TestTimes(t *testing.T) {
 		for seed, m := range append(plain.Matrices(), plain.Sized(1, 300, 300)) {
 			for _, v := range [][]byte{plain.Mixed(seed, m.Cols), make([]byte, m.Cols), slices.Repeat([]byte{0xFF}, m.Cols)} {
 				got, ok := matrix.Times(f, m, v)
-				if !ok || !bytes.Equal(got, plain.MatrixProduct(m, column(v)).Cells) || !bytes.Equal(got, mul(t, f, m, column(v)).Cells) {
+				if !ok || !bytes.Equal(got, plain.MatrixProduct(m, plain.Column(v)).Cells) || !bytes.Equal(got, mul(t, f, m, plain.Column(v)).Cells) {
 					t.Errorf("%s: Times of %d by %d and %X = %X, %v", name, m.Rows, m.Cols, v, got, ok)
 				}
 			}
@@ -581,11 +547,11 @@ func TestTimesOneByOne(t *testing.T) {
 func TestSame(t *testing.T) {
 	all := append(append(plain.Matrices(), plain.Crooked()...), plain.Sized(1, 300, 300))
 	for i, a := range all {
-		if !matrix.Same(a, a) || !matrix.Same(a, copied(a)) {
+		if !matrix.Same(a, a) || !matrix.Same(a, plain.CopiedMatrix(a)) {
 			t.Errorf("%d by %d, %d cells, is not the same as itself", a.Rows, a.Cols, len(a.Cells))
 		}
 		for j, b := range all {
-			if got := matrix.Same(a, b); got != alike(a, b) {
+			if got := matrix.Same(a, b); got != plain.SameMatrix(a, b) {
 				t.Errorf("Same of number %d and number %d = %v", i, j, got)
 			}
 		}
@@ -595,7 +561,7 @@ func TestSame(t *testing.T) {
 // TestSameEach: one field or cell is another one.
 func TestSameEach(t *testing.T) {
 	for _, m := range append(plain.Matrices(), plain.Crooked()...) {
-		rows, cols, more := m, m, copied(m)
+		rows, cols, more := m, m, plain.CopiedMatrix(m)
 		rows.Rows++
 		cols.Cols--
 		more.Cells = append(more.Cells, 0)
@@ -605,7 +571,7 @@ func TestSameEach(t *testing.T) {
 			fewer.Cells = m.Cells[:n-1]
 			others = append(others, fewer)
 			for _, at := range []int{0, n / 2, n - 1} {
-				other := copied(m)
+				other := plain.CopiedMatrix(m)
 				other.Cells[at] ^= 1
 				others = append(others, other)
 			}
@@ -686,7 +652,7 @@ func TestHandedInStays(t *testing.T) {
 	for name, f := range fields() {
 		for seed, m := range plain.Matrices() {
 			v := plain.Mixed(seed, m.Cols)
-			wholeM, innerM := framed(m)
+			wholeM, innerM := plain.FramedMatrix(m)
 			wholeV, innerV := plain.Framed(v)
 			wasM, wasV := slices.Clone(wholeM), slices.Clone(wholeV)
 			if call, same := plain.Alike(told(f, m, v), told(f, innerM, innerV)); !same {
@@ -706,7 +672,7 @@ func TestHandedInStays(t *testing.T) {
 func TestRowsStay(t *testing.T) {
 	rows := [][]byte{{1, 2}, {3, 4}, {5, 6}, {7}, {8, 9}}
 	was := slices.Clone(rows)
-	if got, ok := matrix.Of(rows[:3]); !ok || !alike(got, api.Matrix{Rows: 3, Cols: 2, Cells: []byte{1, 2, 3, 4, 5, 6}}) {
+	if got, ok := matrix.Of(rows[:3]); !ok || !plain.SameMatrix(got, api.Matrix{Rows: 3, Cols: 2, Cells: []byte{1, 2, 3, 4, 5, 6}}) {
 		t.Errorf("Of the first three of %X = %v, %v", rows, got, ok)
 	}
 	if !slices.EqualFunc(rows, was, bytes.Equal) {
@@ -718,7 +684,7 @@ func TestRowsStay(t *testing.T) {
 func TestToldIsNew(t *testing.T) {
 	for name, f := range fields() {
 		for seed, m := range plain.Matrices() {
-			wholeM, innerM := framed(m)
+			wholeM, innerM := plain.FramedMatrix(m)
 			wholeV, innerV := plain.Framed(plain.Mixed(seed, m.Cols))
 			first := told(f, innerM, innerV)
 			want := plain.Copied(first)
@@ -745,7 +711,7 @@ func TestToldIsNew(t *testing.T) {
 func TestToldIsFarFromBehind(t *testing.T) {
 	for name, f := range fields() {
 		for seed, m := range plain.Matrices() {
-			wholeM, innerM := framed(m)
+			wholeM, innerM := plain.FramedMatrix(m)
 			wholeV, innerV := plain.Framed(plain.Mixed(seed, m.Cols))
 			wasM, wasV := slices.Clone(wholeM), slices.Clone(wholeV)
 			for call, l := range told(f, innerM, innerV) {
@@ -764,14 +730,14 @@ func TestToldIsFarFromBehind(t *testing.T) {
 func TestOneHandedInTwice(t *testing.T) {
 	for name, f := range fields() {
 		for _, m := range []api.Matrix{plain.Sized(1, 1, 1), plain.Sized(2, 5, 5), plain.Sized(3, 65, 65)} {
-			was := copied(m)
-			if got := mul(t, f, m, m); !alike(got, plain.MatrixProduct(was, was)) {
+			was := plain.CopiedMatrix(m)
+			if got := mul(t, f, m, m); !plain.SameMatrix(got, plain.MatrixProduct(was, was)) {
 				t.Errorf("%s: the square of %v = %v", name, was, got)
 			}
-			if got, ok := matrix.Times(f, m, m.Cells[:m.Cols]); !ok || !bytes.Equal(got, plain.MatrixProduct(was, column(was.Cells[:m.Cols])).Cells) {
+			if got, ok := matrix.Times(f, m, m.Cells[:m.Cols]); !ok || !bytes.Equal(got, plain.MatrixProduct(was, plain.Column(was.Cells[:m.Cols])).Cells) {
 				t.Errorf("%s: %v times its first row = %X, %v", name, was, got, ok)
 			}
-			if !alike(m, was) {
+			if !plain.SameMatrix(m, was) {
 				t.Errorf("%s: %v was changed", name, was)
 			}
 		}
@@ -782,7 +748,7 @@ func TestOneHandedInTwice(t *testing.T) {
 func TestNilField(t *testing.T) {
 	for _, m := range append(plain.Matrices(), plain.Crooked()...) {
 		for _, other := range []api.Matrix{matrix.Turn(m), m, {}, matrix.One(min(max(m.Cols, 0), 300))} {
-			if got, ok := matrix.Mul(nil, m, other); ok || !nothing(got) {
+			if got, ok := matrix.Mul(nil, m, other); ok || !plain.NoMatrix(got) {
 				t.Errorf("Mul by nil of %d by %d and %d by %d = %v, %v", m.Rows, m.Cols, other.Rows, other.Cols, got, ok)
 			}
 		}

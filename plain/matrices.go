@@ -1,8 +1,10 @@
 package plain
 
 import (
+	"bytes"
 	"math"
 	"math/bits"
+	"slices"
 
 	"erratum/api"
 )
@@ -64,4 +66,38 @@ func MatrixProduct(a, b api.Matrix) api.Matrix {
 		}
 	}
 	return product
+}
+
+// Turned is a right matrix with rows for columns.
+func Turned(m api.Matrix) api.Matrix {
+	turned := api.Matrix{Rows: m.Cols, Cols: m.Rows}
+	for j := range m.Cols {
+		for i := range m.Rows {
+			turned.Cells = append(turned.Cells, Cell(m, i, j))
+		}
+	}
+	return turned
+}
+
+// Column is a matrix of one column.
+func Column(v []byte) api.Matrix { return api.Matrix{Rows: len(v), Cols: 1, Cells: v} }
+
+// NoMatrix says whether a matrix is its zero value.
+func NoMatrix(m api.Matrix) bool { return m.Rows == 0 && m.Cols == 0 && len(m.Cells) == 0 }
+
+// SameMatrix says whether two matrices are.
+func SameMatrix(a, b api.Matrix) bool {
+	return a.Rows == b.Rows && a.Cols == b.Cols && bytes.Equal(a.Cells, b.Cells)
+}
+
+// CopiedMatrix shares no memory with m.
+func CopiedMatrix(m api.Matrix) api.Matrix {
+	m.Cells = slices.Clone(m.Cells)
+	return m
+}
+
+// FramedMatrix is a matrix whose cells lie within a longer list.
+func FramedMatrix(m api.Matrix) (whole []byte, inner api.Matrix) {
+	whole, cells := Framed(m.Cells)
+	return whole, api.Matrix{Rows: m.Rows, Cols: m.Cols, Cells: cells}
 }
