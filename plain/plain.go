@@ -1,4 +1,4 @@
-// Package plain multiplies bytes, polynomials and matrices by doubling alone, and tells lists and matrices to try calls with: no layer stands on it, the tests hold the layers' answers against it.
+// Package plain multiplies bytes, polynomials and matrices by doubling alone, and tells lists, matrices and codes to try calls with: no layer stands on it, the tests hold the layers' answers against it.
 package plain
 
 import "slices"
