@@ -1,0 +1,103 @@
+package code_test
+
+import (
+	"bytes"
+	"slices"
+	"sync"
+
+	"erratum/api"
+	"erratum/field"
+	"erratum/plain"
+)
+
+// fields are one of each backend.
+func fields() map[string]*field.Field {
+	return map[string]*field.Field{
+		"Table": field.Of(api.Table),
+		"Shift": field.Of(api.Shift),
+		"Lanes": field.Of(api.Lanes),
+	}
+}
+
+// powersPlain are all powers of 2, by doubling alone; the power i comes again at i + 255.
+var powersPlain = sync.OnceValue(func() []byte {
+	var l []byte
+	for i := range 255 {
+		l = append(l, plain.Power(i))
+	}
+	return l
+})
+
+// parityPlain is what Parity is to tell of a right code: each cell by itself.
+func parityPlain(c api.Code) api.Matrix {
+	m := api.Matrix{Rows: c.N - c.K, Cols: c.N}
+	for j := range m.Rows {
+		for i := range m.Cols {
+			m.Cells = append(m.Cells, powersPlain()[(c.B+j)*i%255])
+		}
+	}
+	return m
+}
+
+// hasPlain says whether a list as long as a right code's words is one of them.
+func hasPlain(c api.Code, w []byte) bool {
+	return !slices.ContainsFunc(plain.Roots(c), func(root byte) bool { return plain.Value(w, root) != 0 })
+}
+
+// known is a right code, and some of its words: the least multiple of all, what lies furthest right, and others.
+type known struct {
+	c     api.Code
+	words [][]byte
+}
+
+// knownCodes are made once: the plain way takes its time.
+var knownCodes = sync.OnceValue(func() []known {
+	var l []known
+	for _, c := range plain.Codes() {
+		k := known{c: c}
+		for _, p := range [][]byte{{1}, plain.Alone(1, c.K-1), {0xA7}, plain.Mixed(1, c.K), plain.Mixed(4, c.K)} {
+			k.words = append(k.words, plain.Multiple(c, p))
+		}
+		l = append(l, k)
+	}
+	return l
+})
+
+// added is a list with a byte added at a place.
+func added(w []byte, at int, b byte) []byte {
+	l := slices.Clone(w)
+	l[at] ^= b
+	return l
+}
+
+// sum is that of two lists of one length, as long as they are.
+func sum(v, w []byte) []byte {
+	l := slices.Clone(v)
+	for i, b := range w {
+		l[i] ^= b
+	}
+	return l
+}
+
+// times is a list multiplied by a byte, as long as it was.
+func times(a byte, w []byte) []byte {
+	l := slices.Clone(w)
+	for i, b := range w {
+		l[i] = plain.Mul(a, b)
+	}
+	return l
+}
+
+// sorted are bytes, rising.
+func sorted(l []byte) []byte { return slices.Sorted(slices.Values(l)) }
+
+// allBut are all bytes, rising, but some.
+func allBut(some ...byte) []byte {
+	var l []byte
+	for b := range 256 {
+		if !bytes.Contains(some, []byte{byte(b)}) {
+			l = append(l, byte(b))
+		}
+	}
+	return l
+}
