@@ -290,7 +290,7 @@ func TestParity(t *testing.T) {
 func lists(k known) [][]byte {
 	l := append(slices.Clone(k.words), make([]byte, k.c.N), slices.Repeat([]byte{1}, k.c.N), plain.Mixed(3, k.c.N))
 	for i, w := range k.words {
-		l = append(l, added(w, i*7%k.c.N, 0x21), added(added(w, 0, 1), k.c.N-1, 1))
+		l = append(l, plain.Added(w, i*7%k.c.N, 0x21), plain.Added(plain.Added(w, 0, 1), k.c.N-1, 1))
 	}
 	return l
 }
@@ -303,7 +303,7 @@ func TestParityBringsWordsToNothing(t *testing.T) {
 			for _, w := range lists(k) {
 				got, ok := matrix.Times(f, m, w)
 				nothing := ok && bytes.Equal(got, make([]byte, k.c.N-k.c.K))
-				if has := code.Has(f, k.c, w); has != nothing || has != hasPlain(k.c, w) {
+				if has := code.Has(f, k.c, w); has != nothing || has != plain.Has(k.c, w) {
 					t.Errorf("%s: of %v, Has(%X) is %v, and by Parity it comes to %X", name, k.c, w, has, got)
 				}
 			}
@@ -395,13 +395,13 @@ func TestSumsAndMultiplesOfWords(t *testing.T) {
 		for _, k := range knownCodes() {
 			for i, w := range k.words {
 				next := k.words[(i+1)%len(k.words)]
-				for _, word := range [][]byte{sum(w, next), sum(w, w), times(0, w), times(2, w), times(0xE5, sum(times(0x1F, w), next))} {
+				for _, word := range [][]byte{plain.Xored(w, next), plain.Xored(w, w), plain.Times(0, w), plain.Times(2, w), plain.Times(0xE5, plain.Xored(plain.Times(0x1F, w), next))} {
 					if !code.Has(f, k.c, word) {
 						t.Errorf("%s: %v has not %X", name, k.c, word)
 					}
 				}
-				none := added(w, i%k.c.N, 0x40)
-				if code.Has(f, k.c, sum(next, none)) || code.Has(f, k.c, times(0x77, none)) || !code.Has(f, k.c, sum(none, none)) {
+				none := plain.Added(w, i%k.c.N, 0x40)
+				if code.Has(f, k.c, plain.Xored(next, none)) || code.Has(f, k.c, plain.Times(0x77, none)) || !code.Has(f, k.c, plain.Xored(none, none)) {
 					t.Errorf("%s: sums and multiples of %X by %v", name, none, k.c)
 				}
 			}
@@ -416,7 +416,7 @@ func TestOneByteAnother(t *testing.T) {
 			w := k.words[len(k.words)-1]
 			for at := range k.c.N {
 				for _, b := range []byte{1, 0x80, 0xFF, byte(at) | 2} {
-					if got := added(w, at, b); code.Has(f, k.c, got) {
+					if got := plain.Added(w, at, b); code.Has(f, k.c, got) {
 						t.Errorf("%s: %v has %X, which is another word at %d alone", name, k.c, got, at)
 					}
 				}

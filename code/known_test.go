@@ -39,11 +39,6 @@ func parityPlain(c api.Code) api.Matrix {
 	return m
 }
 
-// hasPlain says whether a list as long as a right code's words is one of them.
-func hasPlain(c api.Code, w []byte) bool {
-	return !slices.ContainsFunc(plain.Roots(c), func(root byte) bool { return plain.Value(w, root) != 0 })
-}
-
 // known is a right code, and some of its words: the least multiple of all, what lies furthest right, and others.
 type known struct {
 	c     api.Code
@@ -62,31 +57,6 @@ var knownCodes = sync.OnceValue(func() []known {
 	}
 	return l
 })
-
-// added is a list with a byte added at a place.
-func added(w []byte, at int, b byte) []byte {
-	l := slices.Clone(w)
-	l[at] ^= b
-	return l
-}
-
-// sum is that of two lists of one length, as long as they are.
-func sum(v, w []byte) []byte {
-	l := slices.Clone(v)
-	for i, b := range w {
-		l[i] ^= b
-	}
-	return l
-}
-
-// times is a list multiplied by a byte, as long as it was.
-func times(a byte, w []byte) []byte {
-	l := slices.Clone(w)
-	for i, b := range w {
-		l[i] = plain.Mul(a, b)
-	}
-	return l
-}
 
 // sorted are bytes, rising.
 func sorted(l []byte) []byte { return slices.Sorted(slices.Values(l)) }

@@ -114,7 +114,7 @@ func TestWordsStay(t *testing.T) {
 			for _, w := range lists(k) {
 				whole, inner := plain.Framed(w)
 				was := slices.Clone(whole)
-				if code.Has(f, k.c, inner) != hasPlain(k.c, w) {
+				if code.Has(f, k.c, inner) != plain.Has(k.c, w) {
 					t.Errorf("%s: Has(%v, %X) hangs on what lies behind", name, k.c, w)
 				}
 				if !bytes.Equal(whole, was) {

@@ -1,7 +1,9 @@
 package plain
 
 import (
+	"bytes"
 	"math"
+	"slices"
 
 	"erratum/api"
 )
@@ -67,4 +69,41 @@ func Roots(c api.Code) []byte {
 func Multiple(c api.Code, p []byte) []byte {
 	w := Product(FromZeros(Roots(c)...), p)
 	return Behind(w, c.N-len(w))
+}
+
+// Has says whether a list as long as a right code's words is one of them.
+func Has(c api.Code, w []byte) bool {
+	return !slices.ContainsFunc(Roots(c), func(root byte) bool { return Value(w, root) != 0 })
+}
+
+// Word is that of a right code which ends in a message: noughts are laid ahead of the message, and multiples of what has the code's roots, each taken off from the last byte on, leave what the word begins with.
+func Word(c api.Code, m []byte) []byte {
+	least := FromZeros(Roots(c)...)
+	begins := c.N - c.K
+	left := append(make([]byte, begins), m...)
+	for at := c.K - 1; at >= 0; at-- {
+		times := left[begins+at]
+		for i, b := range least {
+			left[at+i] ^= Mul(times, b)
+		}
+	}
+	return append(left[:begins:begins], m...)
+}
+
+// Messages are some of a right code, each another one: all 0, all 255, with the first or the last byte 0, or alone not 0, and mixed ones.
+func Messages(c api.Code) [][]byte {
+	l := [][]byte{make([]byte, c.K), slices.Repeat([]byte{0xFF}, c.K)}
+	for seed := range 4 {
+		m := Mixed(3+seed, c.K)
+		m[0] |= 0x10
+		m[c.K-1] |= byte(seed) + 1
+		l = append(l, m)
+	}
+	for _, at := range []int{0, c.K - 1} {
+		m := Mixed(9+at, c.K)
+		m[at] = 0
+		l = append(l, m, Behind(Alone(1, at), c.K-1-at), Behind(Alone(0xA7, at), c.K-1-at))
+	}
+	slices.SortFunc(l, bytes.Compare)
+	return slices.CompactFunc(l, bytes.Equal)
 }

@@ -1,4 +1,4 @@
-// Package plain multiplies bytes, polynomials and matrices by doubling alone, and tells lists, matrices and codes to try calls with: no layer stands on it, the tests hold the layers' answers against it.
+// Package plain multiplies bytes, polynomials and matrices by doubling alone, and tells lists, matrices, codes, messages and words to try calls with: no layer stands on it, the tests hold the layers' answers against it.
 package plain
 
 import "slices"
@@ -48,4 +48,29 @@ func Mixed(seed, long int) []byte {
 func Framed(l []byte) (whole, inner []byte) {
 	whole = slices.Concat([]byte{0xFF, 0xFF}, l, slices.Repeat([]byte{0xFF}, 130))
 	return whole, whole[2 : 2+len(l)]
+}
+
+// Added is a list with a byte added at a place.
+func Added(l []byte, at int, b byte) []byte {
+	added := slices.Clone(l)
+	added[at] ^= b
+	return added
+}
+
+// Xored is the sum of two lists of one length, as long as they are.
+func Xored(l, m []byte) []byte {
+	sum := slices.Clone(l)
+	for i, b := range m {
+		sum[i] ^= b
+	}
+	return sum
+}
+
+// Times is a list multiplied by a byte, as long as it was.
+func Times(a byte, l []byte) []byte {
+	products := slices.Clone(l)
+	for i, b := range l {
+		products[i] = Mul(a, b)
+	}
+	return products
 }
