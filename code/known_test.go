@@ -39,7 +39,7 @@ func parityPlain(c api.Code) api.Matrix {
 	return m
 }
 
-// known is a right code, and some of its words: the least multiple of all, what lies furthest right, and others.
+// known is a right code, and some of its words, the least multiple of all ahead.
 type known struct {
 	c     api.Code
 	words [][]byte
@@ -49,11 +49,7 @@ type known struct {
 var knownCodes = sync.OnceValue(func() []known {
 	var l []known
 	for _, c := range plain.Codes() {
-		k := known{c: c}
-		for _, p := range [][]byte{{1}, plain.Alone(1, c.K-1), {0xA7}, plain.Mixed(1, c.K), plain.Mixed(4, c.K)} {
-			k.words = append(k.words, plain.Multiple(c, p))
-		}
-		l = append(l, k)
+		l = append(l, known{c, plain.Words(c)})
 	}
 	return l
 })

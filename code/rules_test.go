@@ -84,9 +84,7 @@ func TestToldIsNew(t *testing.T) {
 			first, second := told(f, c), told(f, c)
 			want := plain.Copied(first)
 			for _, l := range second {
-				for i := range l[:cap(l)] {
-					l[:cap(l)][i] ^= 0xA5
-				}
+				plain.Spoil(l)
 			}
 			if call, same := plain.Alike(want, first); !same {
 				t.Errorf("%s: %s of %v shares memory with what was told before", name, call, c)
@@ -95,9 +93,7 @@ func TestToldIsNew(t *testing.T) {
 				t.Errorf("%s: %s of %v is another one, told again", name, call, c)
 			}
 			for call, l := range first {
-				for i := range l[:cap(l)] {
-					l[:cap(l)][i] ^= 0x5A
-				}
+				plain.Spoil(l)
 				want[call] = slices.Clone(l)
 				if other, same := plain.Alike(want, first); !same {
 					t.Errorf("%s: %s and %s of %v share memory", name, call, other, c)

@@ -36,14 +36,3 @@ var knownCodes = sync.OnceValue(func() []known {
 	}
 	return l
 })
-
-// otherLengths are lists that are not long: none, one byte, one fewer and one more, twice as many, and some others.
-func otherLengths(long int, others ...int) [][]byte {
-	var l [][]byte
-	for _, n := range append([]int{0, 1, long - 1, long + 1, 2 * long, 255, 256, long + 255, long + 256, 511}, others...) {
-		if n >= 0 && n != long {
-			l = append(l, make([]byte, n), plain.Mixed(n, n))
-		}
-	}
-	return append(l, nil)
-}

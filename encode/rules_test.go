@@ -30,7 +30,7 @@ func checkMessage(t *testing.T, c api.Code, w []byte, want api.Errno) {
 
 // anyLists are as long as a code that is not right says, where a list may be so long, and otherwise.
 func anyLists(c api.Code) [][]byte {
-	l := otherLengths(4, 2, 3, 4)
+	l := plain.OtherLengths(4, 2, 3, 4)
 	for _, n := range []int{c.N, c.K, c.N - c.K} {
 		if n >= 0 && n <= 1000 {
 			l = append(l, make([]byte, n), plain.Mixed(n, n))
@@ -55,12 +55,12 @@ func TestCrooked(t *testing.T) {
 // TestBadLength: messages and words of another length, also ones as long as the other of both is.
 func TestBadLength(t *testing.T) {
 	for _, c := range append(plain.Codes(), plain.SmallCodes(4)...) {
-		for _, m := range otherLengths(c.K, c.N, c.N-1, c.N-c.K) {
+		for _, m := range plain.OtherLengths(c.K, c.N, c.N-1, c.N-c.K) {
 			for name, f := range fields() {
 				checkEncode(t, name, f, c, m, api.BadLength)
 			}
 		}
-		for _, w := range otherLengths(c.N, c.K, c.N-c.K) {
+		for _, w := range plain.OtherLengths(c.N, c.K, c.N-c.K) {
 			checkMessage(t, c, w, api.BadLength)
 		}
 	}
@@ -86,7 +86,7 @@ func TestBadLengthOfWords(t *testing.T) {
 // TestNilField: nothing is told, and BadParams, also where the length is another one.
 func TestNilField(t *testing.T) {
 	for _, k := range knownCodes() {
-		for _, m := range append(otherLengths(k.c.K, k.c.N), k.messages...) {
+		for _, m := range append(plain.OtherLengths(k.c.K, k.c.N), k.messages...) {
 			checkEncode(t, "nil", nil, k.c, m, api.BadParams)
 		}
 	}
@@ -103,13 +103,6 @@ func told(f *field.Field, c api.Code, m, w []byte) map[string][]byte {
 	return map[string][]byte{"Encode": wordTold, "Message": messageTold}
 }
 
-// turn changes what is told up to its capacity's end.
-func turn(l []byte) {
-	for i := range l[:cap(l)] {
-		l[:cap(l)][i] ^= 0xA5
-	}
-}
-
 // TestToldIsNew: what is told may be written to its capacity's end; what was handed in, what was told beside it, and what is told again, stays.
 func TestToldIsNew(t *testing.T) {
 	for name, f := range fields() {
@@ -121,7 +114,7 @@ func TestToldIsNew(t *testing.T) {
 				first, second := told(f, k.c, innerM, innerW), told(f, k.c, innerM, innerW)
 				want := plain.Copied(first)
 				for _, l := range second {
-					turn(l)
+					plain.Spoil(l)
 				}
 				if !bytes.Equal(wholeM, wasM) || !bytes.Equal(wholeW, wasW) {
 					t.Fatalf("%s: of %v, %X was changed, or what was handed in is handed out", name, k.c, m)
@@ -144,8 +137,8 @@ func TestHandedInIsNotKept(t *testing.T) {
 			for i, m := range k.messages {
 				handedM, handedW := slices.Clone(m), slices.Clone(k.words[i])
 				first := told(f, k.c, handedM, handedW)
-				turn(handedM)
-				turn(handedW)
+				plain.Spoil(handedM)
+				plain.Spoil(handedW)
 				want := map[string][]byte{"Encode": k.words[i], "Message": m}
 				if call, same := plain.Alike(want, first); !same {
 					t.Errorf("%s: %s of %v shares memory with what was handed in", name, call, k.c)

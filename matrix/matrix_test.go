@@ -715,9 +715,7 @@ func TestToldIsFarFromBehind(t *testing.T) {
 			wholeV, innerV := plain.Framed(plain.Mixed(seed, m.Cols))
 			wasM, wasV := slices.Clone(wholeM), slices.Clone(wholeV)
 			for call, l := range told(f, innerM, innerV) {
-				for i := range l[:cap(l)] {
-					l[:cap(l)][i] ^= 0xA5
-				}
+				plain.Spoil(l)
 				if !bytes.Equal(wholeM, wasM) || !bytes.Equal(wholeV, wasV) {
 					t.Fatalf("%s: %s of %d by %d hands out what was handed in", name, call, m.Rows, m.Cols)
 				}

@@ -71,6 +71,15 @@ func Multiple(c api.Code, p []byte) []byte {
 	return Behind(w, c.N-len(w))
 }
 
+// Words are some of a right code: the least multiple of all, what lies furthest right, and others.
+func Words(c api.Code) [][]byte {
+	var l [][]byte
+	for _, p := range [][]byte{{1}, Alone(1, c.K-1), {0xA7}, Mixed(1, c.K), Mixed(4, c.K)} {
+		l = append(l, Multiple(c, p))
+	}
+	return l
+}
+
 // Has says whether a list as long as a right code's words is one of them.
 func Has(c api.Code, w []byte) bool {
 	return !slices.ContainsFunc(Roots(c), func(root byte) bool { return Value(w, root) != 0 })

@@ -1,4 +1,4 @@
-// Package plain multiplies bytes, polynomials and matrices by doubling alone, and tells lists, matrices, codes, messages and words to try calls with: no layer stands on it, the tests hold the layers' answers against it.
+// Package plain multiplies bytes, polynomials and matrices by doubling alone, and tells lists, matrices, codes, messages, words and places to try calls with: no layer stands on it, the tests hold the layers' answers against it.
 package plain
 
 import "slices"
@@ -44,10 +44,29 @@ func Mixed(seed, long int) []byte {
 	return l
 }
 
-// Framed is a list within a longer one, whose other bytes are FF: what lies behind the list's length is there to be touched.
-func Framed(l []byte) (whole, inner []byte) {
-	whole = slices.Concat([]byte{0xFF, 0xFF}, l, slices.Repeat([]byte{0xFF}, 130))
+// Framed is a list within a longer one, whose other bytes, or numbers, are FF: what lies behind the list's length is there to be touched.
+func Framed[T byte | int](l []T) (whole, inner []T) {
+	whole = slices.Concat([]T{0xFF, 0xFF}, l, slices.Repeat([]T{0xFF}, 130))
 	return whole, whole[2 : 2+len(l)]
+}
+
+// Spoil changes a list up to its capacity's end.
+func Spoil[T byte | int](l []T) {
+	whole := l[:cap(l)]
+	for i := range whole {
+		whole[i] ^= 0xA5
+	}
+}
+
+// OtherLengths are lists that are not long: none, one byte, one fewer and one more, twice as many, and some others.
+func OtherLengths(long int, others ...int) [][]byte {
+	var l [][]byte
+	for _, n := range append([]int{0, 1, long - 1, long + 1, 2 * long, 255, 256, long + 255, long + 256, 511}, others...) {
+		if n >= 0 && n != long {
+			l = append(l, make([]byte, n), Mixed(n, n))
+		}
+	}
+	return append(l, nil)
 }
 
 // Added is a list with a byte added at a place.

@@ -542,9 +542,7 @@ func TestToldIsFarFromBehind(t *testing.T) {
 			wholeQ, innerQ := plain.Framed(beside(p))
 			wasP, wasQ := slices.Clone(wholeP), slices.Clone(wholeQ)
 			for call, l := range told(f, innerP, innerQ) {
-				for i := range l[:cap(l)] {
-					l[:cap(l)][i] ^= 0xA5
-				}
+				plain.Spoil(l)
 				if !bytes.Equal(wholeP, wasP) || !bytes.Equal(wholeQ, wasQ) {
 					t.Fatalf("%s: %s of %X hands out what was handed in", name, call, p)
 				}

@@ -645,9 +645,7 @@ func TestToldIsFarFromBehind(t *testing.T) {
 			wholeX, innerX := plain.Framed(beside(p))
 			wasP, wasX := slices.Clone(wholeP), slices.Clone(wholeX)
 			for call, l := range told(f, innerP, innerX) {
-				for i := range l[:cap(l)] {
-					l[:cap(l)][i] ^= 0xA5
-				}
+				plain.Spoil(l)
 				if !bytes.Equal(wholeP, wasP) || !bytes.Equal(wholeX, wasX) {
 					t.Fatalf("%s: %s of %X hands out what was handed in", name, call, p)
 				}
