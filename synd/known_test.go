@@ -1,0 +1,94 @@
+package synd_test
+
+import (
+	"math"
+	"slices"
+	"sync"
+
+	"erratum/api"
+	"erratum/field"
+	"erratum/plain"
+)
+
+// fields are one of each backend.
+func fields() map[string]*field.Field {
+	return map[string]*field.Field{
+		"Table": field.Of(api.Table),
+		"Shift": field.Of(api.Shift),
+		"Lanes": field.Of(api.Lanes),
+	}
+}
+
+// received is a list as long as a code's words, with its values at the roots.
+type received struct {
+	w, syndromes []byte
+}
+
+// known is a right code, its roots, some of its words, and lists of that length: words, and others with one byte another one, and with many.
+type known struct {
+	c     api.Code
+	roots []byte
+	words [][]byte
+	lists []received
+}
+
+// knownCodes are made once: the plain way takes its time.
+var knownCodes = sync.OnceValue(func() []known {
+	var l []known
+	for _, c := range plain.Codes() {
+		k := known{c: c, roots: plain.Roots(c), words: plain.Words(c)}
+		for _, w := range manyLists(k) {
+			k.lists = append(k.lists, received{w, syndromesPlain(k.roots, w)})
+		}
+		l = append(l, k)
+	}
+	return l
+})
+
+// manyLists are as long as a code's words: these, all 0, and what has one byte, some, or all bytes wrong.
+func manyLists(k known) [][]byte {
+	n := k.c.N
+	l := append(slices.Clone(k.words), make([]byte, n), slices.Repeat([]byte{1}, n), slices.Repeat([]byte{0xFF}, n), plain.Mixed(3, n))
+	for i, w := range k.words {
+		l = append(l, plain.Added(w, i*7%n, 0x21), plain.Added(plain.Added(w, 0, 1), n-1, 1), plain.Xored(w, plain.Mixed(i+1, n/2)), plain.Xored(w, plain.Mixed(i+1, n)))
+	}
+	return l
+}
+
+// syndromesPlain are a list's values at the roots, in order.
+func syndromesPlain(roots, w []byte) []byte {
+	var l []byte
+	for _, root := range roots {
+		l = append(l, plain.Value(w, root))
+	}
+	return l
+}
+
+// point is the power of 2 that a place has; they come again after 255.
+func point(i int) byte { return plain.Power((i%255 + 255) % 255) }
+
+// locatorPlain is the product of 1 and each place's power times x.
+func locatorPlain(e []int) []byte {
+	l := []byte{1}
+	for _, i := range e {
+		l = plain.Product(l, []byte{1, point(i)})
+	}
+	return l
+}
+
+// anyPlaces are lists of numbers, places of a code or not: none, one, in whatever order, above 254, below 0, more than once, and the ends of an int.
+func anyPlaces() [][]int {
+	return [][]int{nil, {}, {0}, {1}, {7}, {254}, {255}, {256}, {-1}, {-2}, {-254}, {-255}, {-256}, {510}, {1000000}, {-1000000}, {math.MinInt}, {math.MaxInt},
+		{0, 1}, {1, 0}, {0, 0}, {5, 5}, {5, 5, 5}, {0, 255}, {255, 0}, {-255, 0, 255}, {-1, 254}, {3, 9, 3}, {9, 3, 3}, {3, 3, 9}, {0, 1, 2, 3}, {3, 1, 0, 2}, {300, -300, 45, -45},
+		{math.MinInt, math.MaxInt}, {math.MaxInt, 0, math.MinInt}, {math.MaxInt, 4, math.MaxInt}, {math.MinInt, math.MinInt + 1, math.MaxInt - 1, math.MaxInt},
+		{40, 30, 20, 10, 0, -10, -20}, {-3, -2, -1, 0, 1, 2, 3}, {12, 250, 3, 99, 180, 41, 7, 222, 64, 128, 63, 129}}
+}
+
+// numbers are as many as n of many kinds, in no order, some of them more than once; another seed tells others.
+func numbers(seed, n int) []int {
+	var l []int
+	for i := range n {
+		l = append(l, (i*i*31+seed*17)%997-300)
+	}
+	return l
+}
