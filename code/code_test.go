@@ -467,8 +467,7 @@ func TestHasOfOtherLengths(t *testing.T) {
 		for _, k := range knownCodes() {
 			zero := make([]byte, k.c.N)
 			for _, w := range append(slices.Clone(k.words), zero) {
-				for _, other := range [][]byte{nil, {}, w[:k.c.N-1], w[1:], w[:1], append(slices.Clone(w), 0), append([]byte{0}, w...), append(slices.Clone(w), 7),
-					slices.Concat(w, w), slices.Concat(w, make([]byte, 256)), w[:k.c.N-k.c.K], plain.Strip(w)} {
+				for _, other := range append(plain.Resized(w), nil, w[:1], w[:k.c.N-k.c.K], plain.Strip(w)) {
 					if len(other) != k.c.N && code.Has(f, k.c, other) {
 						t.Errorf("%s: %v has %X, of %d bytes", name, k.c, other, len(other))
 					}

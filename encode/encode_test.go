@@ -219,9 +219,6 @@ func TestSumsAndMultiples(t *testing.T) {
 	}
 }
 
-// apart is at how many bytes two words are unlike.
-func apart(w, v []byte) int { return len(w) - bytes.Count(plain.Xored(w, v), []byte{0}) }
-
 // TestUnlikeMessages: their words are unlike at more bytes than there are roots; those of messages that are unlike at one byte may be at just one more.
 func TestUnlikeMessages(t *testing.T) {
 	for name, f := range fields() {
@@ -232,12 +229,12 @@ func TestUnlikeMessages(t *testing.T) {
 			}
 			for i, w := range words {
 				for _, v := range words[:i] {
-					if n := apart(w, v); n > 0 && n <= k.c.N-k.c.K || n == 0 && !bytes.Equal(w[k.c.N-k.c.K:], v[k.c.N-k.c.K:]) {
+					if n := len(plain.Apart(w, v)); n > 0 && n <= k.c.N-k.c.K || n == 0 && !bytes.Equal(w[k.c.N-k.c.K:], v[k.c.N-k.c.K:]) {
 						t.Errorf("%s: words of %v are unlike at %d bytes alone: %X and %X", name, k.c, n, w, v)
 					}
 				}
 			}
-			if n := apart(words[0], words[1]); n > k.c.N-k.c.K+1 {
+			if n := len(plain.Apart(words[0], words[1])); n > k.c.N-k.c.K+1 {
 				t.Errorf("%s: words of %v whose messages are unlike at one byte are unlike at %d", name, k.c, n)
 			}
 		}

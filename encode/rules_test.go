@@ -28,21 +28,10 @@ func checkMessage(t *testing.T, c api.Code, w []byte, want api.Errno) {
 	}
 }
 
-// anyLists are as long as a code that is not right says, where a list may be so long, and otherwise.
-func anyLists(c api.Code) [][]byte {
-	l := plain.OtherLengths(4, 2, 3, 4)
-	for _, n := range []int{c.N, c.K, c.N - c.K} {
-		if n >= 0 && n <= 1000 {
-			l = append(l, make([]byte, n), plain.Mixed(n, n))
-		}
-	}
-	return l
-}
-
 // TestCrooked: a code that is not right is told ahead of a length that is another one, and of one that is not.
 func TestCrooked(t *testing.T) {
 	for _, c := range plain.CrookedCodes() {
-		for _, l := range anyLists(c) {
+		for _, l := range plain.AnyLengths(c) {
 			for name, f := range fields() {
 				checkEncode(t, name, f, c, l, api.BadParams)
 			}
@@ -71,11 +60,11 @@ func TestBadLengthOfWords(t *testing.T) {
 	for _, k := range knownCodes() {
 		for i, w := range k.words {
 			m := k.messages[i]
-			for _, other := range [][]byte{w[1:], w[:k.c.N-1], append([]byte{0}, w...), plain.Behind(w, 1), append(slices.Clone(w), 7), slices.Concat(w, w), plain.Behind(w, 256)} {
+			for _, other := range plain.Resized(w) {
 				checkMessage(t, k.c, other, api.BadLength)
 			}
 			for name, f := range fields() {
-				for _, other := range [][]byte{m[1:], m[:k.c.K-1], append([]byte{0}, m...), plain.Behind(m, 1), append(slices.Clone(m), 7), w, plain.Behind(m, 256)} {
+				for _, other := range append(plain.Resized(m), w) {
 					checkEncode(t, name, f, k.c, other, api.BadLength)
 				}
 			}
@@ -171,7 +160,7 @@ func TestNothingBehindIsRead(t *testing.T) {
 // TestWrongOnesStay: what an error is told of is as it was, too.
 func TestWrongOnesStay(t *testing.T) {
 	for _, c := range append(plain.Codes(), plain.CrookedCodes()...) {
-		for _, l := range anyLists(c) {
+		for _, l := range plain.AnyLengths(c) {
 			whole, inner := plain.Framed(l)
 			was := slices.Clone(whole)
 			for _, f := range fields() {

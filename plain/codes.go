@@ -47,6 +47,17 @@ func CrookedCodes() []api.Code {
 	return l
 }
 
+// AnyLengths are lists as long as a code says, which need not be right, where a list may be so long, and otherwise.
+func AnyLengths(c api.Code) [][]byte {
+	l := OtherLengths(4, 2, 3, 4)
+	for _, n := range []int{c.N, c.K, c.N - c.K} {
+		if n >= 0 && n <= 1000 {
+			l = append(l, make([]byte, n), Mixed(n, n))
+		}
+	}
+	return l
+}
+
 // Power is that of 2, from the power 0 on: as many doublings as n.
 func Power(n int) byte {
 	p := byte(1)

@@ -48,3 +48,11 @@ func CrookedPlaces(c api.Code) [][]int {
 	}
 	return l
 }
+
+// AnyPlaces are lists of numbers, places of a code or not: none, one, in whatever order, above 254, below 0, more than once, and the ends of an int.
+func AnyPlaces() [][]int {
+	return [][]int{nil, {}, {0}, {1}, {7}, {254}, {255}, {256}, {-1}, {-2}, {-254}, {-255}, {-256}, {510}, {1000000}, {-1000000}, {math.MinInt}, {math.MaxInt},
+		{0, 1}, {1, 0}, {0, 0}, {5, 5}, {5, 5, 5}, {0, 255}, {255, 0}, {-255, 0, 255}, {-1, 254}, {3, 9, 3}, {9, 3, 3}, {3, 3, 9}, {0, 1, 2, 3}, {3, 1, 0, 2}, {300, -300, 45, -45},
+		{math.MinInt, math.MaxInt}, {math.MaxInt, 0, math.MinInt}, {math.MaxInt, 4, math.MaxInt}, {math.MinInt, math.MinInt + 1, math.MaxInt - 1, math.MaxInt},
+		{40, 30, 20, 10, 0, -10, -20}, {-3, -2, -1, 0, 1, 2, 3}, {12, 250, 3, 99, 180, 41, 7, 222, 64, 128, 63, 129}}
+}

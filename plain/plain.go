@@ -69,6 +69,33 @@ func OtherLengths(long int, others ...int) [][]byte {
 	return append(l, nil)
 }
 
+// Resized are a list with bytes more or fewer, ahead and behind, noughts as well as others.
+func Resized(l []byte) [][]byte {
+	return [][]byte{l[1:], l[:len(l)-1], append([]byte{0}, l...), Behind(l, 1), append(slices.Clone(l), 7), slices.Concat(l, l), Behind(l, 256)}
+}
+
+// AllShort are all lists of up to long of some things, each as often as may be.
+func AllShort[T any](long int, of ...T) [][]T {
+	lists := [][]T{nil}
+	for at := 0; at < len(lists) && len(lists[at]) < long; at++ {
+		for _, thing := range of {
+			lists = append(lists, append(slices.Clone(lists[at]), thing))
+		}
+	}
+	return lists
+}
+
+// Apart are the places, rising, at which two lists are unlike, up to the shorter one's end.
+func Apart(l, m []byte) []int {
+	var places []int
+	for i := range min(len(l), len(m)) {
+		if l[i] != m[i] {
+			places = append(places, i)
+		}
+	}
+	return places
+}
+
 // Added is a list with a byte added at a place.
 func Added(l []byte, at int, b byte) []byte {
 	added := slices.Clone(l)

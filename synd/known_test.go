@@ -1,7 +1,6 @@
 package synd_test
 
 import (
-	"math"
 	"slices"
 	"sync"
 
@@ -74,14 +73,6 @@ func locatorPlain(e []int) []byte {
 		l = plain.Product(l, []byte{1, point(i)})
 	}
 	return l
-}
-
-// anyPlaces are lists of numbers, places of a code or not: none, one, in whatever order, above 254, below 0, more than once, and the ends of an int.
-func anyPlaces() [][]int {
-	return [][]int{nil, {}, {0}, {1}, {7}, {254}, {255}, {256}, {-1}, {-2}, {-254}, {-255}, {-256}, {510}, {1000000}, {-1000000}, {math.MinInt}, {math.MaxInt},
-		{0, 1}, {1, 0}, {0, 0}, {5, 5}, {5, 5, 5}, {0, 255}, {255, 0}, {-255, 0, 255}, {-1, 254}, {3, 9, 3}, {9, 3, 3}, {3, 3, 9}, {0, 1, 2, 3}, {3, 1, 0, 2}, {300, -300, 45, -45},
-		{math.MinInt, math.MaxInt}, {math.MaxInt, 0, math.MinInt}, {math.MaxInt, 4, math.MaxInt}, {math.MinInt, math.MinInt + 1, math.MaxInt - 1, math.MaxInt},
-		{40, 30, 20, 10, 0, -10, -20}, {-3, -2, -1, 0, 1, 2, 3}, {12, 250, 3, 99, 180, 41, 7, 222, 64, 128, 63, 129}}
 }
 
 // numbers are as many as n of many kinds, in no order, some of them more than once; another seed tells others.

@@ -65,7 +65,7 @@ func TestLocatorKnown(t *testing.T) {
 }
 
 // placesLists are lists of places, in order or not, each once or not, and of numbers that are none.
-var placesLists = slices.Concat(anyPlaces(), plain.Places(api.Code{N: 255, K: 1}), plain.Places(api.Code{N: 20, K: 7}),
+var placesLists = slices.Concat(plain.AnyPlaces(), plain.Places(api.Code{N: 255, K: 1}), plain.Places(api.Code{N: 20, K: 7}),
 	[][]int{numbers(1, 9), numbers(2, 40), numbers(3, 64), numbers(4, 65), numbers(5, 130), numbers(6, 300)})
 
 // TestLocator: the product, NORMAL, as long as there are places and one more, with 1 for x^0, whatever the order.
@@ -209,14 +209,7 @@ func TestModified(t *testing.T) {
 
 // TestModifiedOfAllShort: all s and l of up to three bytes of a few.
 func TestModifiedOfAllShort(t *testing.T) {
-	lists := [][]byte{nil}
-	for at := 0; at < len(lists); at++ {
-		for _, b := range []byte{0, 1, 0xC3} {
-			if len(lists[at]) < 3 {
-				lists = append(lists, append(slices.Clone(lists[at]), b))
-			}
-		}
-	}
+	lists := plain.AllShort(3, []byte{0, 1, 0xC3}...)
 	for name, f := range fields() {
 		for _, s := range lists {
 			for _, l := range lists {

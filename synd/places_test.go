@@ -107,9 +107,7 @@ func TestErasuresOfAllTwo(t *testing.T) {
 // TestErasuresOfAllShort: all lists of up to five numbers from -1 to 4, each held against the chapter's words.
 func TestErasuresOfAllShort(t *testing.T) {
 	c := api.Code{N: 4, K: 2, B: 254}
-	lists := [][]int{nil}
-	for at := 0; at < len(lists); at++ {
-		e := lists[at]
+	for _, e := range plain.AllShort(5, -1, 0, 1, 2, 3, 4) {
 		want := api.OK
 		for i, place := range e {
 			if place < 0 || place > 3 || slices.Contains(e[:i], place) {
@@ -117,9 +115,6 @@ func TestErasuresOfAllShort(t *testing.T) {
 			}
 		}
 		checkErasures(t, c, e, want)
-		for i := -1; i <= 4 && len(e) < 5; i++ {
-			lists = append(lists, append(slices.Clone(e), i))
-		}
 	}
 }
 
@@ -144,7 +139,7 @@ func TestErasuresOfMany(t *testing.T) {
 // TestErasuresOfCrooked: a code that is not right is told ahead of places that are none, or stand twice, and of ones that might be.
 func TestErasuresOfCrooked(t *testing.T) {
 	right := api.Code{N: 4, K: 2, B: 0}
-	lists := slices.Concat(plain.Places(right), plain.CrookedPlaces(right), anyPlaces())
+	lists := slices.Concat(plain.Places(right), plain.CrookedPlaces(right), plain.AnyPlaces())
 	for _, c := range plain.CrookedCodes() {
 		for _, e := range lists {
 			checkErasures(t, c, e, api.BadParams)
@@ -205,7 +200,7 @@ func checkSorted(t *testing.T, e []int) {
 
 func TestSorted(t *testing.T) {
 	right := api.Code{N: 255, K: 1, B: 0}
-	for _, e := range slices.Concat(anyPlaces(), plain.Places(right), plain.CrookedPlaces(right)) {
+	for _, e := range slices.Concat(plain.AnyPlaces(), plain.Places(right), plain.CrookedPlaces(right)) {
 		checkSorted(t, e)
 	}
 	for _, n := range []int{2, 3, 12, 13, 50, 256, 1000, 100000} {
@@ -217,14 +212,7 @@ func TestSorted(t *testing.T) {
 
 // TestSortedOfAllShort: all lists of up to six of four numbers.
 func TestSortedOfAllShort(t *testing.T) {
-	lists := [][]int{nil}
-	for at := 0; at < len(lists); at++ {
-		e := lists[at]
+	for _, e := range plain.AllShort(6, -1, 0, 3, math.MinInt) {
 		checkSorted(t, e)
-		for _, i := range []int{-1, 0, 3, math.MinInt} {
-			if len(e) < 6 {
-				lists = append(lists, append(slices.Clone(e), i))
-			}
-		}
 	}
 }

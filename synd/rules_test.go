@@ -25,7 +25,7 @@ var asks = sync.OnceValue(func() []asked {
 	var many []asked
 	polys := plain.Polys()
 	for i, k := range knownCodes() {
-		places := append(plain.Places(k.c), anyPlaces()...)
+		places := append(plain.Places(k.c), plain.AnyPlaces()...)
 		for j := i % 4; j < len(places); j += 4 {
 			r, e := k.lists[j%len(k.lists)], places[j]
 			s, l := r.syndromes, locatorPlain(e)

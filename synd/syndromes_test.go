@@ -186,7 +186,7 @@ func TestSyndromesOfOtherLengths(t *testing.T) {
 				checkNone(t, name, f, k.c, w)
 			}
 			for _, w := range k.words {
-				for _, other := range [][]byte{w[1:], w[:k.c.N-1], append([]byte{0}, w...), plain.Behind(w, 1), append(slices.Clone(w), 7), slices.Concat(w, w), plain.Behind(w, 256)} {
+				for _, other := range plain.Resized(w) {
 					checkNone(t, name, f, k.c, other)
 				}
 			}
@@ -211,13 +211,7 @@ func TestSyndromesOfCrooked(t *testing.T) {
 // checkNoneOfAny: nothing is told of any list, also of one as long as the code says, where a list may be so long.
 func checkNoneOfAny(t *testing.T, name string, f *field.Field, c api.Code) {
 	t.Helper()
-	lists := plain.OtherLengths(4, 2, 3, 4)
-	for _, n := range []int{c.N, c.K, c.N - c.K} {
-		if n >= 0 && n <= 1000 {
-			lists = append(lists, make([]byte, n), plain.Mixed(n, n))
-		}
-	}
-	for _, w := range lists {
+	for _, w := range plain.AnyLengths(c) {
 		checkNone(t, name, f, c, w)
 	}
 }
