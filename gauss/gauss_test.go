@@ -53,8 +53,8 @@ func TestEchelonKnown(t *testing.T) {
 // isReduced says whether a matrix is as the chapter says it, and these are the columns of its LEADS.
 func isReduced(m api.Matrix, leads []int) bool {
 	last := -1
-	for i, row := range rowsOf(m) {
-		at := firstNot0(row)
+	for i, row := range plain.RowsOf(m) {
+		at := plain.FirstNot0(row)
 		if i >= len(leads) {
 			if at < m.Cols {
 				return false
@@ -101,14 +101,14 @@ func TestEchelonOfReduced(t *testing.T) {
 
 // respanned are matrices whose rows span what those of a right one span: in another order, multiplied, added to others.
 func respanned(m api.Matrix) []api.Matrix {
-	back, turned, times, added := rowsOf(m), rowsOf(m), rowsOf(m), rowsOf(m)
+	back, turned, times, added := plain.RowsOf(m), plain.RowsOf(m), plain.RowsOf(m), plain.RowsOf(m)
 	slices.Reverse(back)
 	turned = append(turned[1:], turned[0])
 	for i := range m.Rows {
 		times[i] = make([]byte, m.Cols)
-		addTimes(times[i], byte(i%255+1), added[i])
+		plain.AddTimes(times[i], byte(i%255+1), added[i])
 		if i > 0 {
-			addTimes(added[i], byte(i+0x35), added[i-1])
+			plain.AddTimes(added[i], byte(i+0x35), added[i-1])
 		}
 	}
 	slices.Reverse(added)
@@ -251,7 +251,7 @@ func TestSolve(t *testing.T) {
 	some, none := 0, 0
 	for _, k := range knownTries() {
 		for _, b := range columns(k.m) {
-			_, wide := reducedPlain(withColumn(k.m, b))
+			_, wide := plain.Reduced(plain.WithColumn(k.m, b))
 			is := len(wide) == len(k.leads)
 			if is {
 				some++
@@ -294,7 +294,7 @@ func comeOf(m api.Matrix) map[[2]byte]bool {
 // TestSolveSmall: columns of few kinds, held against all that come of any.
 func TestSolveSmall(t *testing.T) {
 	for _, m := range []api.Matrix{noughts(2, 2), one(2), of([]byte{1, 1}, []byte{0, 2}), of([]byte{1, 2}, []byte{2, 4}), of([]byte{0, 1}, []byte{0, 3}), of([]byte{0, 0}, []byte{5, 0}), of([]byte{3, 3}, []byte{0, 0}), of([]byte{1, 2}, []byte{3, 4})} {
-		_, leads := reducedPlain(m)
+		_, leads := plain.Reduced(m)
 		come := comeOf(m)
 		for n := range 256 {
 			b := [2]byte{byte(n % 16), byte(n / 16)}
@@ -378,8 +378,8 @@ func TestNullKnown(t *testing.T) {
 			{of([]byte{0, 1, 5}), [][]byte{{1, 0, 0}, {0, 5, 1}}},
 			{of([]byte{0, 0}, []byte{0, 0}, []byte{0, 0}), [][]byte{{1, 0}, {0, 1}}},
 			{of([]byte{1, 7, 0, 8}, []byte{0, 0, 1, 9}), [][]byte{{7, 1, 0, 0}, {8, 0, 9, 1}}},
-			{noughts(2, 300), rowsOf(one(300))},
-			{api.Matrix{Cols: 300}, rowsOf(one(300))},
+			{noughts(2, 300), plain.RowsOf(one(300))},
+			{api.Matrix{Cols: 300}, plain.RowsOf(one(300))},
 			{one(300), nil},
 		} {
 			if got := gauss.Null(f, c.m); !slices.EqualFunc(got, c.want, bytes.Equal) {

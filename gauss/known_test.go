@@ -1,7 +1,6 @@
 package gauss_test
 
 import (
-	"maps"
 	"slices"
 	"sync"
 
@@ -24,15 +23,6 @@ func of(rows ...[]byte) api.Matrix {
 	return api.Matrix{Rows: len(rows), Cols: len(rows[0]), Cells: slices.Concat(rows...)}
 }
 
-// rowsOf are the rows of a right matrix, each in memory of its own.
-func rowsOf(m api.Matrix) [][]byte {
-	rows := make([][]byte, m.Rows)
-	for i := range rows {
-		rows[i] = slices.Clone(m.Cells[i*m.Cols : (i+1)*m.Cols])
-	}
-	return rows
-}
-
 // laid is a matrix of rows as long as cols says: there may be none of them.
 func laid(cols int, rows ...[]byte) api.Matrix {
 	return api.Matrix{Rows: len(rows), Cols: cols, Cells: slices.Concat(rows...)}
@@ -50,67 +40,6 @@ func one(n int) api.Matrix {
 		m.Cells[i*n+i] = 1
 	}
 	return m
-}
-
-// inverse is that of a byte that is not 0.
-func inverse(a byte) byte {
-	i := byte(1)
-	for plain.Mul(a, i) != 1 {
-		i++
-	}
-	return i
-}
-
-// addTimes adds a times another row.
-func addTimes(row []byte, a byte, other []byte) {
-	for i, b := range other {
-		row[i] ^= plain.Mul(a, b)
-	}
-}
-
-// firstNot0 is where a row's first cell that is not 0 stands; its length, if there is none.
-func firstNot0(row []byte) int {
-	at := 0
-	for at < len(row) && row[at] == 0 {
-		at++
-	}
-	return at
-}
-
-// reducedPlain is what Echelon is to tell of a right matrix. It takes row after row, and brings each down by those that lead already; the package goes through columns.
-func reducedPlain(m api.Matrix) (api.Matrix, []int) {
-	by := map[int][]byte{}
-	for _, row := range rowsOf(m) {
-		for col, other := range by {
-			addTimes(row, row[col], other)
-		}
-		at := firstNot0(row)
-		if at == len(row) {
-			continue
-		}
-		scaled := plain.Scaled(inverse(row[at]), row) // It lacks the noughts at its end.
-		row = plain.Behind(scaled, m.Cols-len(scaled))
-		for _, other := range by {
-			addTimes(other, other[at], row)
-		}
-		by[at] = row
-	}
-	leads := slices.Sorted(maps.Keys(by))
-	reduced := api.Matrix{Rows: m.Rows, Cols: m.Cols}
-	for _, col := range leads {
-		reduced.Cells = append(reduced.Cells, by[col]...)
-	}
-	reduced.Cells = plain.Behind(reduced.Cells, m.Rows*m.Cols-len(reduced.Cells))
-	return reduced, leads
-}
-
-// withColumn is a right matrix with one more column behind the others.
-func withColumn(m api.Matrix, b []byte) api.Matrix {
-	wide := api.Matrix{Rows: m.Rows, Cols: m.Cols + 1}
-	for i, row := range rowsOf(m) {
-		wide.Cells = append(append(wide.Cells, row...), b[i])
-	}
-	return wide
 }
 
 // without are the columns, rising, in which no LEAD stands.
@@ -145,7 +74,7 @@ func invertible(seed, n int) api.Matrix {
 			}
 		}
 	}
-	rows := rowsOf(plain.MatrixProduct(low, high))
+	rows := plain.RowsOf(plain.MatrixProduct(low, high))
 	slices.Reverse(rows)
 	return laid(n, rows...)
 }
@@ -159,14 +88,14 @@ func ofRank(seed, rows, rank, cols int) api.Matrix {
 func dependent() []api.Matrix {
 	a, b := plain.Mixed(1, 70), plain.Mixed(2, 70)
 	sum, times := slices.Clone(a), slices.Clone(a)
-	addTimes(sum, 1, b)
-	addTimes(times, 0x53, b)
+	plain.AddTimes(sum, 1, b)
+	plain.AddTimes(times, 0x53, b)
 	l := []api.Matrix{of(a, b, sum), of(sum, times, a, b), of(a, a), of(b, a, a, b, a), of(a, make([]byte, 70), a), of(make([]byte, 70), sum, a, b)}
 	l = append(l, of([]byte{1, 2, 3}, []byte{2, 4, 6}), of([]byte{2, 4, 6}, []byte{1, 2, 3}, []byte{3, 6, 5}), of([]byte{0, 0, 3}, []byte{0, 2, 1}, []byte{1, 1, 1}),
 		of([]byte{0, 1}, []byte{1, 0}), of([]byte{0, 0, 0, 1}, []byte{0, 0, 0, 2}), of([]byte{0, 0, 5, 1}, []byte{0, 0, 5, 1}, []byte{0, 7, 0, 0}),
 		of([]byte{0, 0, 1, 1}, []byte{0, 0, 0, 0}, []byte{0, 3, 1, 0}), of([]byte{0, 4}), of([]byte{0}, []byte{4}), of([]byte{0, 0}, []byte{0, 9}), of([]byte{1, 0, 7}, []byte{0, 0, 1}))
 	for _, n := range []int{1, 2, 5, 65} {
-		back := rowsOf(one(n))
+		back := plain.RowsOf(one(n))
 		slices.Reverse(back)
 		l = append(l, one(n), laid(n, back...), invertible(n, n))
 	}
@@ -210,7 +139,7 @@ type known struct {
 func knownOf(ms []api.Matrix) []known {
 	var l []known
 	for _, m := range ms {
-		reduced, leads := reducedPlain(m)
+		reduced, leads := plain.Reduced(m)
 		l = append(l, known{m, reduced, leads})
 	}
 	return l

@@ -2,6 +2,7 @@ package plain
 
 import (
 	"bytes"
+	"maps"
 	"math"
 	"math/bits"
 	"slices"
@@ -77,6 +78,67 @@ func Turned(m api.Matrix) api.Matrix {
 		}
 	}
 	return turned
+}
+
+// RowsOf are the rows of a right matrix, each in memory of its own.
+func RowsOf(m api.Matrix) [][]byte {
+	rows := make([][]byte, m.Rows)
+	for i := range rows {
+		rows[i] = slices.Clone(m.Cells[i*m.Cols : (i+1)*m.Cols])
+	}
+	return rows
+}
+
+// AddTimes adds a times another row.
+func AddTimes(row []byte, a byte, other []byte) {
+	for i, b := range other {
+		row[i] ^= Mul(a, b)
+	}
+}
+
+// FirstNot0 is where a row's first cell that is not 0 stands; its length, if there is none.
+func FirstNot0(row []byte) int {
+	at := 0
+	for at < len(row) && row[at] == 0 {
+		at++
+	}
+	return at
+}
+
+// Reduced is a right matrix in the form that gauss.Echelon is to tell, and its leads. It takes row after row, and brings each down by those that lead already; the package goes through columns.
+func Reduced(m api.Matrix) (api.Matrix, []int) {
+	by := map[int][]byte{}
+	for _, row := range RowsOf(m) {
+		for col, other := range by {
+			AddTimes(row, row[col], other)
+		}
+		at := FirstNot0(row)
+		if at == len(row) {
+			continue
+		}
+		scaled := Scaled(Inverse(row[at]), row) // It lacks the noughts at its end.
+		row = Behind(scaled, m.Cols-len(scaled))
+		for _, other := range by {
+			AddTimes(other, other[at], row)
+		}
+		by[at] = row
+	}
+	leads := slices.Sorted(maps.Keys(by))
+	reduced := api.Matrix{Rows: m.Rows, Cols: m.Cols}
+	for _, col := range leads {
+		reduced.Cells = append(reduced.Cells, by[col]...)
+	}
+	reduced.Cells = Behind(reduced.Cells, m.Rows*m.Cols-len(reduced.Cells))
+	return reduced, leads
+}
+
+// WithColumn is a right matrix with one more column behind the others.
+func WithColumn(m api.Matrix, b []byte) api.Matrix {
+	wide := api.Matrix{Rows: m.Rows, Cols: m.Cols + 1}
+	for i, row := range RowsOf(m) {
+		wide.Cells = append(append(wide.Cells, row...), b[i])
+	}
+	return wide
 }
 
 // Column is a matrix of one column.

@@ -56,3 +56,15 @@ func AnyPlaces() [][]int {
 		{math.MinInt, math.MaxInt}, {math.MaxInt, 0, math.MinInt}, {math.MaxInt, 4, math.MaxInt}, {math.MinInt, math.MinInt + 1, math.MaxInt - 1, math.MaxInt},
 		{40, 30, 20, 10, 0, -10, -20}, {-3, -2, -1, 0, 1, 2, 3}, {12, 250, 3, 99, 180, 41, 7, 222, 64, 128, 63, 129}}
 }
+
+// Point is the power of 2 that a place has; they come again after 255.
+func Point(i int) byte { return Power((i%255 + 255) % 255) }
+
+// Locator is the product of 1 and each place's power times x.
+func Locator(e []int) []byte {
+	l := []byte{1}
+	for _, i := range e {
+		l = Product(l, []byte{1, Point(i)})
+	}
+	return l
+}

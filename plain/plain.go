@@ -1,7 +1,10 @@
 // Package plain multiplies bytes, polynomials and matrices by doubling alone, and tells lists, matrices, codes, messages, words and places to try calls with: no layer stands on it, the tests hold the layers' answers against it.
 package plain
 
-import "slices"
+import (
+	"math"
+	"slices"
+)
 
 // Double is a byte times 2, modulo 11D.
 func Double(a byte) byte {
@@ -21,6 +24,15 @@ func Mul(a, b byte) byte {
 		a = Double(a)
 	}
 	return p
+}
+
+// Inverse is that of a byte that is not 0.
+func Inverse(a byte) byte {
+	i := byte(1)
+	for Mul(a, i) != 1 {
+		i++
+	}
+	return i
 }
 
 // AllPairs goes through all bytes with all bytes.
@@ -56,6 +68,15 @@ func Spoil[T byte | int](l []T) {
 	for i := range whole {
 		whole[i] ^= 0xA5
 	}
+}
+
+// Around are the numbers round the edges of a list, and as far off as an int is.
+func Around(long int) []int {
+	l := []int{math.MinInt, math.MinInt + 1, -1 << 32, -1 << 31, -1000, -2, -1, 0, 1, 2, 3, 1000, 1 << 31, 1 << 32, math.MaxInt - 1, math.MaxInt}
+	for n := long - 2; n <= long+2; n++ {
+		l = append(l, n, -n)
+	}
+	return l
 }
 
 // OtherLengths are lists that are not long: none, one byte, one fewer and one more, twice as many, and some others.

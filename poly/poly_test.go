@@ -22,15 +22,6 @@ func fields() map[string]*field.Field {
 	}
 }
 
-// numbers are those round the edges of a list, and as far off as an int is.
-func numbers(long int) []int {
-	l := []int{math.MinInt, math.MinInt + 1, -1 << 32, -1 << 31, -1000, -2, -1, 0, 1, 2, 3, 1000, 1 << 31, 1 << 32, math.MaxInt - 1, math.MaxInt}
-	for n := long - 2; n <= long+2; n++ {
-		l = append(l, n, -n)
-	}
-	return l
-}
-
 func TestExample(t *testing.T) {
 	for name, f := range fields() {
 		if got := poly.Mul(f, []byte{1, 1}, []byte{1, 1}); !bytes.Equal(got, []byte{1, 0, 1}) {
@@ -107,7 +98,7 @@ func TestCoef(t *testing.T) {
 				t.Errorf("Coef(%X, %d) = %02X, not %02X", p, i, got, want)
 			}
 		}
-		for _, i := range numbers(len(p)) {
+		for _, i := range plain.Around(len(p)) {
 			if got := poly.Coef(p, i); got != 0 && (i < 0 || i >= len(p)) {
 				t.Errorf("Coef(%X, %d) = %02X, not 0", p, i, got)
 			}
@@ -340,7 +331,7 @@ func TestShiftKnown(t *testing.T) {
 // TestShift: up and down by numbers at the edges of each list, of 1000, and of an int.
 func TestShift(t *testing.T) {
 	for _, p := range plain.Polys() {
-		for _, n := range append(numbers(len(p)), 999-len(p), 1000-len(p), 1001-len(p), 1002-len(p)) {
+		for _, n := range append(plain.Around(len(p)), 999-len(p), 1000-len(p), 1001-len(p), 1002-len(p)) {
 			var want []byte
 			switch {
 			case n >= 0 && n <= 1000:
@@ -423,7 +414,7 @@ func TestCutKnown(t *testing.T) {
 // TestCut: long lists are cut, too, beyond the degree that Shift bounds.
 func TestCut(t *testing.T) {
 	for _, p := range append(plain.Polys(), append(plain.Mixed(1, 3000), 1)) {
-		for _, n := range append(numbers(len(p)), 1001, 1002, 2000) {
+		for _, n := range append(plain.Around(len(p)), 1001, 1002, 2000) {
 			want := p
 			if n < len(p) {
 				want = p[:max(n, 0)]

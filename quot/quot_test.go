@@ -44,12 +44,10 @@ func right(p, q, times, left []byte) bool {
 // monicPlain is what Monic is to tell: the one multiple by a byte whose last byte is 1.
 func monicPlain(p []byte) []byte {
 	p = plain.Strip(p)
-	for a := range 256 {
-		if len(p) > 0 && plain.Mul(byte(a), p[len(p)-1]) == 1 {
-			return plain.Scaled(byte(a), p)
-		}
+	if len(p) == 0 {
+		return nil
 	}
-	return nil
+	return plain.Scaled(plain.Inverse(p[len(p)-1]), p)
 }
 
 // gcdPlain is what Gcd is to tell: the shorter one, shifted, is taken off the longer one, till one is 0.

@@ -63,18 +63,6 @@ func syndromesPlain(roots, w []byte) []byte {
 	return l
 }
 
-// point is the power of 2 that a place has; they come again after 255.
-func point(i int) byte { return plain.Power((i%255 + 255) % 255) }
-
-// locatorPlain is the product of 1 and each place's power times x.
-func locatorPlain(e []int) []byte {
-	l := []byte{1}
-	for _, i := range e {
-		l = plain.Product(l, []byte{1, point(i)})
-	}
-	return l
-}
-
 // numbers are as many as n of many kinds, in no order, some of them more than once; another seed tells others.
 func numbers(seed, n int) []int {
 	var l []int

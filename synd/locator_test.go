@@ -71,7 +71,7 @@ var placesLists = slices.Concat(plain.AnyPlaces(), plain.Places(api.Code{N: 255,
 // TestLocator: the product, NORMAL, as long as there are places and one more, with 1 for x^0, whatever the order.
 func TestLocator(t *testing.T) {
 	for _, e := range placesLists {
-		want := locatorPlain(e)
+		want := plain.Locator(e)
 		falling := slices.Clone(e)
 		slices.Reverse(falling)
 		for name, f := range fields() {
@@ -107,7 +107,7 @@ func TestLocatorOfEach(t *testing.T) {
 // TestLocatorOfMany: more places than there are powers, and a degree above 1000.
 func TestLocatorOfMany(t *testing.T) {
 	e := append(numbers(7, 1000), numbers(8, 300)...)
-	want := locatorPlain(e)
+	want := plain.Locator(e)
 	for name, f := range fields() {
 		if got := synd.Locator(f, e); !bytes.Equal(got, want) {
 			t.Errorf("%s: Locator of %d places = %X, not %X", name, len(e), got, want)

@@ -28,7 +28,7 @@ var asks = sync.OnceValue(func() []asked {
 		places := append(plain.Places(k.c), plain.AnyPlaces()...)
 		for j := i % 4; j < len(places); j += 4 {
 			r, e := k.lists[j%len(k.lists)], places[j]
-			s, l := r.syndromes, locatorPlain(e)
+			s, l := r.syndromes, plain.Locator(e)
 			if j%3 == 0 {
 				s, l = polys[(i+j)%len(polys)], polys[(i+2*j)%len(polys)]
 			}

@@ -108,7 +108,7 @@ func TestSyndromesOfAllOfTwoBytes(t *testing.T) {
 func oneWrong(k known, at int, b byte) []byte {
 	var l []byte
 	for j := range k.roots {
-		l = append(l, plain.Mul(b, point((k.c.B+j)*at)))
+		l = append(l, plain.Mul(b, plain.Point((k.c.B+j)*at)))
 	}
 	return l
 }
