@@ -90,8 +90,8 @@ func TestMakes(t *testing.T) {
 	t.Parallel()
 	for name, f := range fields() {
 		for n := range 20 {
-			for i, l := range registers(n) {
-				s := made(l, plain.Mixed(n+i, n), 2*n+5)
+			for i, l := range plain.Registers(n) {
+				s := plain.Made(l, plain.Mixed(n+i, n), 2*n+5)
 				checkMakes(t, name, f, l, n, s, true)
 				checkMakes(t, name, f, plain.Behind(l, 1), n, s, true)
 				checkMakes(t, name, f, plain.Behind(l, 300), n, s, true)
@@ -112,10 +112,10 @@ func TestMakesAllButOne(t *testing.T) {
 	t.Parallel()
 	for name, f := range fields() {
 		for n := range 12 {
-			for i, l := range registers(n) {
+			for i, l := range plain.Registers(n) {
 				for _, at := range []int{n, n + 1, 2*n + 2, 2*n + 5} {
-					front := plain.Added(made(l, plain.Mixed(n+i, n), at+1), at, 0x42)
-					s := made(l, front, 2*n+6)
+					front := plain.Added(plain.Made(l, plain.Mixed(n+i, n), at+1), at, 0x42)
+					s := plain.Made(l, front, 2*n+6)
 					checkMakes(t, name, f, l, n, s, false)
 					checkMakes(t, name, f, l, n, s[:at], true)
 					checkMakes(t, name, f, l, at, s, false)  // It makes all from that one on, which it does not make.
@@ -148,7 +148,7 @@ func TestMakesOfEachLength(t *testing.T) {
 		for _, d := range []int{0, 1, 2, 7, 30} {
 			l := append(plain.Mixed(d, d), 9)
 			l[0] = 1
-			for _, s := range [][]byte{nil, make([]byte, d), make([]byte, d+1), make([]byte, 2*d+9), made(l, plain.Mixed(3, d), 2*d+9), plain.Mixed(5, d+4)} {
+			for _, s := range [][]byte{nil, make([]byte, d), make([]byte, d+1), make([]byte, 2*d+9), plain.Made(l, plain.Mixed(3, d), 2*d+9), plain.Mixed(5, d+4)} {
 				for _, n := range slices.Concat(plain.Around(len(s)), plain.Around(d)) {
 					checkMakes(t, name, f, l, n, s, makesPlain(l, n, s))
 					checkMakes(t, name, f, plain.Behind(l, 3), n, s, makesPlain(l, n, s))
@@ -181,7 +181,7 @@ func TestMakesLong(t *testing.T) {
 	t.Parallel()
 	l := append(plain.Mixed(4, 1200), 6)
 	l[0] = 1
-	s := made(l, plain.Mixed(9, 1200), 1700)
+	s := plain.Made(l, plain.Mixed(9, 1200), 1700)
 	for name, f := range fields() {
 		checkMakes(t, name, f, l, 1200, s, true)
 		checkMakes(t, name, f, l, 1199, s, false)

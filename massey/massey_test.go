@@ -35,7 +35,7 @@ func checkRegister(t *testing.T, name string, f *field.Field, s []byte) ([]byte,
 	if !makesPlain(l, n, s) || !massey.Makes(f, l, n, s) {
 		t.Fatalf("%s: Massey(%X) = %X, %d does not make it", name, s, l, n)
 	}
-	if !bytes.Equal(l, plain.Strip(l)) {
+	if !plain.Normal(l) {
 		t.Fatalf("%s: Massey(%X) = %X, %d has noughts at its end", name, s, l, n)
 	}
 	if long := massey.Length(f, s); long != n {
@@ -115,7 +115,7 @@ func TestMasseyOfNoughts(t *testing.T) {
 		for n := range 40 {
 			checkTold(t, name, f, make([]byte, n), []byte{1}, 0)
 			for _, b := range []byte{1, 2, 0x8E, 0xFF} {
-				s := lastOne(n+1, b)
+				s := plain.LastOne(n+1, b)
 				if _, long := checkRegister(t, name, f, s); long != n+1 {
 					t.Fatalf("%s: Massey(%X) tells the length %d", name, s, long)
 				}
@@ -201,9 +201,9 @@ func TestMasseyOfRegisters(t *testing.T) {
 	t.Parallel()
 	for name, f := range fields() {
 		for n := range 30 {
-			for i, l := range registers(n) {
+			for i, l := range plain.Registers(n) {
 				for _, long := range []int{2 * n, 2*n + 1, 3*n + 4} {
-					checkTold(t, name, f, made(l, lastOne(n, byte(i+1)), long), l, n)
+					checkTold(t, name, f, plain.Made(l, plain.LastOne(n, byte(i+1)), long), l, n)
 				}
 			}
 		}
@@ -216,8 +216,8 @@ func TestMasseyOfAnyStart(t *testing.T) {
 	for name, f := range fields() {
 		same := 0
 		for n := range 24 {
-			for i, l := range registers(n) {
-				s := made(l, plain.Mixed(n+i, n), 2*n+i)
+			for i, l := range plain.Registers(n) {
+				s := plain.Made(l, plain.Mixed(n+i, n), 2*n+i)
 				got, long := checkRegister(t, name, f, s)
 				if long > n || long == n && !bytes.Equal(got, l) {
 					t.Fatalf("%s: Massey(%X) = %X, %d, but %X of length %d made it", name, s, got, long, l, n)
@@ -238,8 +238,8 @@ func TestMasseyOfTurned(t *testing.T) {
 	t.Parallel()
 	for name, f := range fields() {
 		for _, n := range []int{0, 1, 2, 3, 6, 9} {
-			for i, l := range registers(n) {
-				s := made(l, plain.Mixed(n+i, n), 2*n+4)
+			for i, l := range plain.Registers(n) {
+				s := plain.Made(l, plain.Mixed(n+i, n), 2*n+4)
 				for at := range s {
 					checkLeast(t, name, f, plain.Added(s, at, byte(31*at+i)|1))
 				}
@@ -265,7 +265,7 @@ func TestLengthOfFronts(t *testing.T) {
 			l, n := massey.Massey(f, nil)
 			for i, b := range s {
 				want := n
-				if nextPlain(l, s[:i]) != b {
+				if plain.Next(l, s[:i]) != b {
 					want = max(n, i+1-n)
 				}
 				if l, n = checkRegister(t, name, f, s[:i+1]); n != want {
@@ -287,9 +287,9 @@ func TestMasseyOfPowers(t *testing.T) {
 				places = append(places, (k*101+count)%255)
 				values = append(values, byte(k*7%255)+1)
 			}
-			checkTold(t, name, f, powers(places, values, 2*count), plain.Locator(places), count)
+			checkTold(t, name, f, plain.Powers(places, values, 2*count), plain.Locator(places), count)
 			if count < 50 {
-				checkTold(t, name, f, powers(places, values, 2*count+7), plain.Locator(places), count)
+				checkTold(t, name, f, plain.Powers(places, values, 2*count+7), plain.Locator(places), count)
 			}
 		}
 	}
@@ -300,13 +300,13 @@ func TestMasseyLong(t *testing.T) {
 	t.Parallel()
 	l := append(plain.Mixed(4, 1100), 6)
 	l[0] = 1
-	s := made(l, lastOne(1100, 3), 2200)
+	s := plain.Made(l, plain.LastOne(1100, 3), 2200)
 	for name, f := range map[string]*field.Field{"Table": field.Of(api.Table), "Shift": field.Of(api.Shift)} {
 		checkTold(t, name, f, s, l, 1100)
 	}
 	for name, f := range fields() {
-		checkTold(t, name, f, plain.Behind(lastOne(1500, 0x11), 1500), []byte{1}, 1500)
-		if _, n := checkRegister(t, name, f, lastOne(1500, 0x11)); n != 1500 {
+		checkTold(t, name, f, plain.Behind(plain.LastOne(1500, 0x11), 1500), []byte{1}, 1500)
+		if _, n := checkRegister(t, name, f, plain.LastOne(1500, 0x11)); n != 1500 {
 			t.Errorf("%s: Massey of 1499 noughts and 11 tells the length %d", name, n)
 		}
 		late := plain.Added(slices.Repeat([]byte{1}, 1400), 1399, 8)

@@ -88,7 +88,7 @@ func TestNextOfAllShort(t *testing.T) {
 				makes := makesPlain(l, n, s)
 				for name, f := range fields() {
 					if makes {
-						checkNext(t, name, f, l, n, s, nextPlain(l, s))
+						checkNext(t, name, f, l, n, s, plain.Next(l, s))
 					} else {
 						checkNoNext(t, name, f, l, n, s)
 					}
@@ -103,8 +103,8 @@ func TestNext(t *testing.T) {
 	t.Parallel()
 	for name, f := range fields() {
 		for _, n := range []int{0, 1, 2, 3, 5, 12} {
-			for i, l := range registers(n) {
-				s := made(l, plain.Mixed(n+i, n), 3*n+6)
+			for i, l := range plain.Registers(n) {
+				s := plain.Made(l, plain.Mixed(n+i, n), 3*n+6)
 				for long := n; long < len(s); long++ {
 					checkNext(t, name, f, l, n, s[:long], s[long])
 					checkNext(t, name, f, plain.Behind(l, 5), n, s[:long], s[long])
@@ -123,12 +123,12 @@ func TestNextOfTurned(t *testing.T) {
 	t.Parallel()
 	for name, f := range fields() {
 		for n := range 10 {
-			for i, l := range registers(n) {
-				s := made(l, plain.Mixed(n+i, n), 2*n+4)
+			for i, l := range plain.Registers(n) {
+				s := plain.Made(l, plain.Mixed(n+i, n), 2*n+4)
 				for at := range s {
 					turned := plain.Added(s, at, byte(at%255)+1)
 					if makesPlain(l, n, turned) {
-						checkNext(t, name, f, l, n, turned, nextPlain(l, turned))
+						checkNext(t, name, f, l, n, turned, plain.Next(l, turned))
 					} else {
 						checkNoNext(t, name, f, l, n, turned)
 					}
@@ -145,10 +145,10 @@ func TestNextOfEachLength(t *testing.T) {
 		for _, d := range []int{0, 1, 2, 7, 30} {
 			l := append(plain.Mixed(d, d), 9)
 			l[0] = 1
-			s := made(l, plain.Mixed(3, d), 2*d+9)
+			s := plain.Made(l, plain.Mixed(3, d), 2*d+9)
 			for _, n := range slices.Concat(plain.Around(len(s)), plain.Around(d)) {
 				if n >= len(plain.Strip(l))-1 && n <= len(s) {
-					checkNext(t, name, f, l, n, s, nextPlain(l, s))
+					checkNext(t, name, f, l, n, s, plain.Next(l, s))
 				} else {
 					checkNoNext(t, name, f, l, n, s)
 				}
@@ -176,7 +176,7 @@ func TestNextLong(t *testing.T) {
 	t.Parallel()
 	l := append(plain.Mixed(4, 1200), 6)
 	l[0] = 1
-	s := made(l, plain.Mixed(9, 1200), 1500)
+	s := plain.Made(l, plain.Mixed(9, 1200), 1500)
 	for name, f := range fields() {
 		checkNext(t, name, f, l, 1200, s[:1499], s[1499])
 		checkNext(t, name, f, l, 1200, s[:1200], s[1200])

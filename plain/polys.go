@@ -31,6 +31,9 @@ func Strip(p []byte) []byte {
 	return bytes.TrimRight(p, "\x00")
 }
 
+// Normal says whether a list has no noughts at its end.
+func Normal(l []byte) bool { return len(l) == len(Strip(l)) }
+
 // Sum is that of two polynomials.
 func Sum(p, q []byte) []byte {
 	long := max(len(p), len(q))
@@ -59,6 +62,29 @@ func Product(p, q []byte) []byte {
 		}
 	}
 	return Strip(product)
+}
+
+// Monic is the one multiple by a byte whose last byte is 1; nothing of noughts.
+func Monic(p []byte) []byte {
+	p = Strip(p)
+	if len(p) == 0 {
+		return nil
+	}
+	return Scaled(Inverse(p[len(p)-1]), p)
+}
+
+// Gcd is the greatest that divides both, and Monic: the shorter one, shifted, is taken off the longer one, till one is 0.
+func Gcd(p, q []byte) []byte {
+	p, q = Monic(p), Monic(q)
+	for len(q) > 0 {
+		if len(p) < len(q) {
+			p, q = q, p
+		} else {
+			p = Monic(Sum(p, slices.Concat(make([]byte, len(p)-len(q)), q)))
+			p, q = q, p
+		}
+	}
+	return p
 }
 
 // FromZeros is the product of x and each of them.

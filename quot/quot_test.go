@@ -32,36 +32,10 @@ func noughts() [][]byte {
 	return slices.DeleteFunc(plain.Polys(), func(p []byte) bool { return len(plain.Strip(p)) > 0 })
 }
 
-// normal says whether a list has no noughts at its end.
-func normal(l []byte) bool { return len(l) == 0 || l[len(l)-1] != 0 }
-
 // right says whether a pair is what Div is to tell: there is no other one.
 func right(p, q, times, left []byte) bool {
-	return normal(times) && normal(left) && len(left) < len(plain.Strip(q)) &&
+	return plain.Normal(times) && plain.Normal(left) && len(left) < len(plain.Strip(q)) &&
 		bytes.Equal(plain.Sum(plain.Product(times, q), left), plain.Strip(p))
-}
-
-// monicPlain is what Monic is to tell: the one multiple by a byte whose last byte is 1.
-func monicPlain(p []byte) []byte {
-	p = plain.Strip(p)
-	if len(p) == 0 {
-		return nil
-	}
-	return plain.Scaled(plain.Inverse(p[len(p)-1]), p)
-}
-
-// gcdPlain is what Gcd is to tell: the shorter one, shifted, is taken off the longer one, till one is 0.
-func gcdPlain(p, q []byte) []byte {
-	p, q = monicPlain(p), monicPlain(q)
-	for len(q) > 0 {
-		if len(p) < len(q) {
-			p, q = q, p
-		} else {
-			p = monicPlain(plain.Sum(p, slices.Concat(make([]byte, len(p)-len(q)), q)))
-			p, q = q, p
-		}
-	}
-	return p
 }
 
 func TestExample(t *testing.T) {
@@ -326,7 +300,7 @@ func TestMonicKnown(t *testing.T) {
 func TestMonic(t *testing.T) {
 	for name, f := range fields() {
 		for _, p := range plain.Polys() {
-			want := monicPlain(p)
+			want := plain.Monic(p)
 			if got := quot.Monic(f, p); !bytes.Equal(got, want) {
 				t.Errorf("%s: Monic(%X) = %X, not %X", name, p, got, want)
 			}
@@ -394,7 +368,7 @@ func TestGcdOfZeros(t *testing.T) {
 func TestGcd(t *testing.T) {
 	for _, p := range plain.Polys() {
 		for _, q := range plain.Polys() {
-			want := gcdPlain(p, q)
+			want := plain.Gcd(p, q)
 			for name, f := range fields() {
 				if got := quot.Gcd(f, p, q); !bytes.Equal(got, want) {
 					t.Errorf("%s: Gcd(%X, %X) = %X, not %X", name, p, q, got, want)
@@ -430,7 +404,7 @@ func TestGcdOfMultiples(t *testing.T) {
 func TestGcdWithNoneAndItself(t *testing.T) {
 	for name, f := range fields() {
 		for _, p := range plain.Polys() {
-			want := monicPlain(p)
+			want := plain.Monic(p)
 			for _, q := range append(noughts(), p, plain.Behind(p, 3), plain.Scaled(0x53, p)) {
 				if got := quot.Gcd(f, p, q); !bytes.Equal(got, want) {
 					t.Errorf("%s: Gcd(%X, %X) = %X, not %X", name, p, q, got, want)
@@ -478,7 +452,7 @@ func TestToldIsNormal(t *testing.T) {
 		for _, p := range plain.Polys() {
 			for _, q := range append(noughts(), beside(p), []byte{0, 3, 0}, []byte{6, 0}, plain.Behind(p, 2)) {
 				for call, l := range told(f, p, q) {
-					if !normal(l) {
+					if !plain.Normal(l) {
 						t.Fatalf("%s: %s of %X and %X is not normal: %X", name, call, p, q, l)
 					}
 				}

@@ -70,9 +70,6 @@ func valuesPlain(p, xs []byte) []byte {
 	return l
 }
 
-// normal says whether a list has no noughts at its end.
-func normal(l []byte) bool { return bytes.Equal(l, plain.Strip(l)) }
-
 func TestExamples(t *testing.T) {
 	for name, f := range fields() {
 		if got := value.From(f, []byte{1, 2}); !bytes.Equal(got, []byte{2, 3, 1}) {
@@ -481,7 +478,7 @@ func TestThrough(t *testing.T) {
 		for seed, xs := range places() {
 			for _, ys := range [][]byte{make([]byte, len(xs)), plain.Mixed(seed, len(xs)), xs, slices.Repeat([]byte{0xE1}, len(xs))} {
 				got, ok := value.Through(f, xs, ys)
-				if !ok || !normal(got) || len(got) > len(xs) || !bytes.Equal(valuesPlain(got, xs), ys) {
+				if !ok || !plain.Normal(got) || len(got) > len(xs) || !bytes.Equal(valuesPlain(got, xs), ys) {
 					t.Errorf("%s: Through(%X, %X) = %X, %v", name, xs, ys, got, ok)
 				}
 			}
@@ -585,7 +582,7 @@ func TestToldIsNormal(t *testing.T) {
 		for _, p := range plain.Polys() {
 			lists := told(f, p, beside(p))
 			for _, call := range []string{"Derive", "From", "From, of p", "From of none", "Through", "Through, one", "Through, itself", "Through, of p"} {
-				if l := lists[call]; !normal(l) {
+				if l := lists[call]; !plain.Normal(l) {
 					t.Errorf("%s: %s of %X is not normal: %X", name, call, p, l)
 				}
 			}
