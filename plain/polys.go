@@ -64,6 +64,24 @@ func Product(p, q []byte) []byte {
 	return Strip(product)
 }
 
+// Divided is a quotient, and what is left, by a polynomial that is not 0: multiples of it, shifted, are taken off from the top down.
+func Divided(p, q []byte) (times, left []byte) {
+	left, q = slices.Clone(Strip(p)), Strip(q)
+	top := len(q) - 1
+	i := Inverse(q[top])
+	times = make([]byte, max(0, len(left)-top))
+	for at := len(times) - 1; at >= 0; at-- {
+		times[at] = Mul(left[at+top], i)
+		for j, b := range q {
+			left[at+j] ^= Mul(times[at], b)
+		}
+	}
+	return Strip(times), Strip(left)
+}
+
+// Cut is what is left of a polynomial modulo x^n.
+func Cut(p []byte, n int) []byte { return Strip(p[:min(len(p), n)]) }
+
 // Monic is the one multiple by a byte whose last byte is 1; nothing of noughts.
 func Monic(p []byte) []byte {
 	p = Strip(p)
