@@ -76,10 +76,10 @@ func checkShare(t *testing.T, name string, f *field.Field, c api.Code, w []byte,
 	if wrong < 0 || wrong+erased > c.N {
 		return
 	}
-	got := through(w, wrong, erased, seed)
-	checkAccept(t, name, f, c, got.r, got.e, w, mended(c, wrong, erased))
-	slices.Sort(got.e)
-	checkAccept(t, name, f, c, got.r, got.e, w, mended(c, wrong, erased))
+	got := plain.Through(w, wrong, erased, seed)
+	checkAccept(t, name, f, c, got.R, got.E, w, plain.Mended(c, wrong, erased))
+	slices.Sort(got.E)
+	checkAccept(t, name, f, c, got.R, got.E, w, plain.Mended(c, wrong, erased))
 }
 
 // TestAccept: of words of all kinds of codes, as many wrong and erased as may be, fewer, and one of either more.
@@ -89,7 +89,7 @@ func TestAccept(t *testing.T) {
 		t.Run(name, func(t *testing.T) {
 			t.Parallel()
 			for _, k := range knownCodes() {
-				for seed, share := range shares(k.c) {
+				for seed, share := range plain.Shares(k.c) {
 					w := k.words[seed%len(k.words)]
 					for _, more := range [][2]int{{0, 0}, {1, 0}, {0, 1}, {-1, 0}, {-1, 1}, {-1, 2}, {-1, 3}} {
 						checkShare(t, name, f, k.c, w, share[0]+more[0], share[1]+more[1], seed)
@@ -110,7 +110,7 @@ func TestAcceptOfNoneWrong(t *testing.T) {
 				checkAccept(t, name, f, k.c, slices.Clone(w), []int{i * 7 % k.c.N}, w, true)
 			}
 			for _, e := range plain.Places(k.c) {
-				checkAccept(t, name, f, k.c, k.words[0], e, k.words[0], mended(k.c, 0, len(e)))
+				checkAccept(t, name, f, k.c, k.words[0], e, k.words[0], plain.Mended(k.c, 0, len(e)))
 			}
 		}
 	}
@@ -124,17 +124,17 @@ func TestAcceptOfEachPlace(t *testing.T) {
 			w := plain.Words(c)[3]
 			for at := range c.N {
 				r := plain.Added(w, at, byte(at)|1)
-				checkAccept(t, name, f, c, r, nil, w, mended(c, 1, 0))
+				checkAccept(t, name, f, c, r, nil, w, plain.Mended(c, 1, 0))
 				checkAccept(t, name, f, c, r, []int{at}, w, true)
 				for _, other := range []int{0, (at + 1) % c.N, c.N - 1} {
 					if other != at {
-						checkAccept(t, name, f, c, r, []int{other}, w, mended(c, 1, 1))
-						checkAccept(t, name, f, c, r, []int{other, at}, w, mended(c, 0, 2))
+						checkAccept(t, name, f, c, r, []int{other}, w, plain.Mended(c, 1, 1))
+						checkAccept(t, name, f, c, r, []int{other, at}, w, plain.Mended(c, 0, 2))
 					}
 				}
 			}
 			for b := range 256 {
-				checkAccept(t, name, f, c, plain.Added(w, 2, byte(b)), nil, w, b == 0 || mended(c, 1, 0))
+				checkAccept(t, name, f, c, plain.Added(w, 2, byte(b)), nil, w, b == 0 || plain.Mended(c, 1, 0))
 			}
 		}
 	}
@@ -168,7 +168,7 @@ func TestAcceptOfAllLists(t *testing.T) {
 				for _, e := range [][]int{nil, {0}, {1}} {
 					plain.AllPairs(func(a, b byte) {
 						w := []byte{a, b}
-						checkAccept(t, name, f, c, r, e, w, plain.Has(c, w) && mended(c, wrongPlain(r, w, e), len(e)))
+						checkAccept(t, name, f, c, r, e, w, plain.Has(c, w) && plain.Mended(c, wrongPlain(r, w, e), len(e)))
 					})
 				}
 			}
@@ -184,8 +184,8 @@ func TestAcceptOfSmallCodes(t *testing.T) {
 			w := plain.Word(c, plain.Mixed(c.B, c.K))
 			for wrong := range c.N + 1 {
 				for erased := range c.N + 1 - wrong {
-					got := through(w, wrong, erased, c.B)
-					checkAccept(t, name, f, c, got.r, got.e, w, mended(c, wrong, erased))
+					got := plain.Through(w, wrong, erased, c.B)
+					checkAccept(t, name, f, c, got.R, got.E, w, plain.Mended(c, wrong, erased))
 				}
 			}
 		}
@@ -303,7 +303,7 @@ func checkOnlyOne(t *testing.T, name string, f *field.Field, c api.Code, words [
 		if check.Accept(f, c, r, e, w) {
 			got = append(got, w)
 		}
-		if mended(c, wrongPlain(r, w, e), len(e)) {
+		if plain.Mended(c, wrongPlain(r, w, e), len(e)) {
 			want = append(want, w)
 		}
 	}
@@ -318,7 +318,7 @@ func anyReceived(c api.Code, words [][]byte) [][]byte {
 	l := [][]byte{make([]byte, c.N), slices.Repeat([]byte{0xFF}, c.N)}
 	for seed := range 8 {
 		w := words[(seed*89+7)%len(words)]
-		l = append(l, plain.Mixed(seed, c.N), through(w, min(seed%3, c.N), 0, seed).r)
+		l = append(l, plain.Mixed(seed, c.N), plain.Through(w, min(seed%3, c.N), 0, seed).R)
 	}
 	return l
 }
@@ -391,10 +391,10 @@ func TestWhichOne(t *testing.T) {
 		for _, c := range []api.Code{{N: 4, K: 1, B: 254}, {N: 6, K: 1, B: 3}, {N: 9, K: 1, B: 250}} {
 			words := allWords(c)
 			for sent := 0; sent < len(words); sent += 51 {
-				for seed, share := range shares(c) {
-					come := through(words[sent], share[0], share[1], seed)
+				for seed, share := range plain.Shares(c) {
+					come := plain.Through(words[sent], share[0], share[1], seed)
 					for i, w := range words {
-						checkAccept(t, name, f, c, come.r, come.e, w, i == sent)
+						checkAccept(t, name, f, c, come.R, come.E, w, i == sent)
 					}
 				}
 			}

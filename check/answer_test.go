@@ -60,8 +60,8 @@ func TestAnswer(t *testing.T) {
 		for seed, w := range append(slices.Clone(k.words), plain.Mixed(1, k.c.N), plain.Mixed(8, k.c.N)) {
 			checkAnswer(t, k.c, w, w, nil)
 			checkAnswer(t, k.c, slices.Clone(w), w, nil)
-			for _, share := range shares(k.c) {
-				r := through(w, share[0], share[1], seed).r
+			for _, share := range plain.Shares(k.c) {
+				r := plain.Through(w, share[0], share[1], seed).R
 				checkAnswer(t, k.c, r, w, plain.Apart(r, w))
 				checkAnswer(t, k.c, w, r, plain.Apart(r, w))
 			}

@@ -288,7 +288,7 @@ func TestFits(t *testing.T) {
 	for _, c := range append(plain.Codes(), plain.SmallCodes(4)...) {
 		for wrong := -3; wrong <= c.N+2; wrong++ {
 			for erased := -3; erased <= c.N+2; erased++ {
-				checkFits(t, c, wrong, erased, wrong >= 0 && erased >= 0 && mended(c, wrong, erased))
+				checkFits(t, c, wrong, erased, wrong >= 0 && erased >= 0 && plain.Mended(c, wrong, erased))
 			}
 		}
 	}

@@ -24,10 +24,10 @@ var asks = sync.OnceValue(func() []asked {
 	var many []asked
 	for i, k := range knownCodes() {
 		places := plain.AnyPlaces()
-		for n, share := range shares(k.c) {
+		for n, share := range plain.Shares(k.c) {
 			w := k.words[(i+n)%len(k.words)]
-			mended := through(w, share[0], share[1], i+n)
-			many = append(many, asked{k.c, mended.r, w, mended.e}, asked{k.c, mended.r, w, places[(i*7+n)%len(places)]})
+			mended := plain.Through(w, share[0], share[1], i+n)
+			many = append(many, asked{k.c, mended.R, w, mended.E}, asked{k.c, mended.R, w, places[(i*7+n)%len(places)]})
 		}
 		many = append(many, asked{k.c, plain.Mixed(i, k.c.N), plain.Mixed(i+1, k.c.N), []int{0}})
 	}

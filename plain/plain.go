@@ -1,4 +1,4 @@
-// Package plain multiplies bytes, polynomials and matrices, divides polynomials and reduces rows by doubling alone, and tells lists, registers, matrices, codes, messages, words and places to try calls with: no layer stands on it, the tests hold the layers' answers against it.
+// Package plain multiplies bytes, polynomials and matrices, divides polynomials and reduces rows by doubling alone, and tells lists, registers, matrices, codes, messages, words, what comes of them, and places to try calls with: no layer stands on it, the tests hold the layers' answers against it.
 package plain
 
 import (

@@ -125,6 +125,28 @@ func Value(p []byte, x byte) byte {
 	return sum
 }
 
+// Values are those of a polynomial at some places, in order.
+func Values(p, xs []byte) []byte {
+	var l []byte
+	for _, x := range xs {
+		l = append(l, Value(p, x))
+	}
+	return l
+}
+
+// Derived is the derivative: each coefficient added as often as its power says, one power lower.
+func Derived(p []byte) []byte {
+	var l []byte
+	for i := 1; i < len(p); i++ {
+		var sum byte
+		for range i {
+			sum ^= p[i]
+		}
+		l = append(l, sum)
+	}
+	return Strip(l)
+}
+
 // Alike says whether the same lists are told under the same names; else which one is the first that is another one.
 func Alike(a, b map[string][]byte) (string, bool) {
 	for _, call := range slices.Sorted(maps.Keys(a)) {

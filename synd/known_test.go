@@ -37,7 +37,7 @@ var knownCodes = sync.OnceValue(func() []known {
 	for _, c := range plain.Codes() {
 		k := known{c: c, roots: plain.Roots(c), words: plain.Words(c)}
 		for _, w := range manyLists(k) {
-			k.lists = append(k.lists, received{w, syndromesPlain(k.roots, w)})
+			k.lists = append(k.lists, received{w, plain.Values(w, k.roots)})
 		}
 		l = append(l, k)
 	}
@@ -50,15 +50,6 @@ func manyLists(k known) [][]byte {
 	l := append(slices.Clone(k.words), make([]byte, n), slices.Repeat([]byte{1}, n), slices.Repeat([]byte{0xFF}, n), plain.Mixed(3, n))
 	for i, w := range k.words {
 		l = append(l, plain.Added(w, i*7%n, 0x21), plain.Added(plain.Added(w, 0, 1), n-1, 1), plain.Xored(w, plain.Mixed(i+1, n/2)), plain.Xored(w, plain.Mixed(i+1, n)))
-	}
-	return l
-}
-
-// syndromesPlain are a list's values at the roots, in order.
-func syndromesPlain(roots, w []byte) []byte {
-	var l []byte
-	for _, root := range roots {
-		l = append(l, plain.Value(w, root))
 	}
 	return l
 }

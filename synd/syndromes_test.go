@@ -76,7 +76,7 @@ func TestSyndromesOfSmallCodes(t *testing.T) {
 		roots := plain.Roots(c)
 		for _, w := range [][]byte{plain.FromZeros(roots...), make([]byte, c.N), plain.Mixed(c.B, c.N), plain.Alone(1, c.N-1), {7, 6, 5, 4, 3}} {
 			w = plain.Behind(w, c.N)[:c.N]
-			want := syndromesPlain(roots, w)
+			want := plain.Values(w, roots)
 			for name, f := range fields() {
 				checkSyndromes(t, name, f, c, w, want)
 			}
@@ -96,7 +96,7 @@ func TestSyndromesOfAllOfTwoBytes(t *testing.T) {
 					roots := plain.Roots(c)
 					plain.AllPairs(func(x, y byte) {
 						w := append([]byte{x, y}, behind...)
-						checkSyndromes(t, name, f, c, w, syndromesPlain(roots, w))
+						checkSyndromes(t, name, f, c, w, plain.Values(w, roots))
 					})
 				}
 			}

@@ -61,15 +61,6 @@ func zerosPlain(p []byte) []byte {
 	return slices.DeleteFunc(all(), func(x byte) bool { return plain.Value(p, x) != 0 })
 }
 
-// valuesPlain are those of a polynomial at some places.
-func valuesPlain(p, xs []byte) []byte {
-	var l []byte
-	for _, x := range xs {
-		l = append(l, plain.Value(p, x))
-	}
-	return l
-}
-
 func TestExamples(t *testing.T) {
 	for name, f := range fields() {
 		if got := value.From(f, []byte{1, 2}); !bytes.Equal(got, []byte{2, 3, 1}) {
@@ -206,7 +197,7 @@ func TestAll(t *testing.T) {
 	for name, f := range fields() {
 		for _, p := range [][]byte{nil, {0, 0}, {9}, {2, 3, 1, 0}, plain.Mixed(3, 64), plain.Behind(plain.Mixed(5, 90), 4)} {
 			for _, xs := range append(places(), twice()...) {
-				if got, want := value.All(f, p, xs), valuesPlain(p, xs); !bytes.Equal(got, want) {
+				if got, want := value.All(f, p, xs), plain.Values(p, xs); !bytes.Equal(got, want) {
 					t.Errorf("%s: All(%X, %X) = %X, not %X", name, p, xs, got, want)
 				}
 			}
@@ -218,7 +209,7 @@ func TestAll(t *testing.T) {
 func TestAllIsAt(t *testing.T) {
 	for name, f := range fields() {
 		for _, p := range plain.Polys() {
-			if got, want := value.All(f, p, all()), valuesPlain(p, all()); !bytes.Equal(got, want) {
+			if got, want := value.All(f, p, all()), plain.Values(p, all()); !bytes.Equal(got, want) {
 				t.Errorf("%s: All(%X, all bytes) = %X, not %X", name, p, got, want)
 			}
 		}
@@ -267,16 +258,8 @@ func TestDerivePowers(t *testing.T) {
 // TestDerive: of all polynomials, coefficient by coefficient, each added as often as the chapter says.
 func TestDerive(t *testing.T) {
 	for _, p := range plain.Polys() {
-		var want []byte
-		for i := 1; i < len(p); i++ {
-			var sum byte
-			for range i {
-				sum ^= p[i]
-			}
-			want = append(want, sum)
-		}
-		if got := value.Derive(p); !bytes.Equal(got, plain.Strip(want)) {
-			t.Errorf("Derive(%X) = %X, not %X", p, got, plain.Strip(want))
+		if got, want := value.Derive(p), plain.Derived(p); !bytes.Equal(got, want) {
+			t.Errorf("Derive(%X) = %X, not %X", p, got, want)
 		}
 		if got := value.Derive(value.Derive(p)); len(got) != 0 {
 			t.Errorf("Derive of Derive(%X) = %X", p, got)
@@ -478,7 +461,7 @@ func TestThrough(t *testing.T) {
 		for seed, xs := range places() {
 			for _, ys := range [][]byte{make([]byte, len(xs)), plain.Mixed(seed, len(xs)), xs, slices.Repeat([]byte{0xE1}, len(xs))} {
 				got, ok := value.Through(f, xs, ys)
-				if !ok || !plain.Normal(got) || len(got) > len(xs) || !bytes.Equal(valuesPlain(got, xs), ys) {
+				if !ok || !plain.Normal(got) || len(got) > len(xs) || !bytes.Equal(plain.Values(got, xs), ys) {
 					t.Errorf("%s: Through(%X, %X) = %X, %v", name, xs, ys, got, ok)
 				}
 			}
